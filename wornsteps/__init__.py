@@ -1,0 +1,1 @@
+"""Wornsteps: which feet wore these steps, decided for all crowds that fit."""

@@ -1,0 +1,104 @@
+"""Which values are valid, and the errors that belong to parameters of a name everywhere."""
+
+from wornsteps.errors import InvalidCount, InvalidLengths, InvalidScore, InvalidThing, InvalidWay, OtherSteps
+
+MOST_LENGTH = 11
+MOST_SCORE = 1000
+
+
+def is_number(value):
+    """Whether any value is an INTEGER: True and False are none."""
+    return isinstance(value, int) and not isinstance(value, bool)
+
+
+def is_count(value):
+    """Whether any value is a COUNT."""
+    return is_number(value) and value >= 0
+
+
+def is_list(value):
+    """Whether any value is accepted where a list is passed."""
+    return isinstance(value, (list, tuple))
+
+
+def is_length(value):
+    """Whether any value is a length that a jump of some stair can have."""
+    return is_number(value) and 1 <= value <= MOST_LENGTH
+
+
+def is_jump(steps, value):
+    """Whether any value is a jump between the places of a stair with so many steps."""
+    if not isinstance(value, tuple) or len(value) != 2:
+        return False
+    i, j = value
+    return is_number(i) and is_number(j) and 0 <= i < j <= steps + 1
+
+
+def is_way(stair, value):
+    """Whether any value is a way of the stair."""
+    if not isinstance(value, tuple) or len(value) < 2:
+        return False
+    if not all([is_number(place) for place in value]):
+        return False
+    if value[0] != 0 or value[-1] != stair.head:
+        return False
+    return all([jump in stair for jump in zip(value, value[1:])])
+
+
+def is_score(stair, value):
+    """Whether any value is a score of things of the stair."""
+    if not isinstance(value, dict):
+        return False
+    return all([thing in stair and is_score_number(value[thing]) for thing in value])
+
+
+def is_score_number(value):
+    """Whether any value is a number that a score can have for a thing."""
+    return is_number(value) and -MOST_SCORE <= value <= MOST_SCORE
+
+
+def first_wrong(row, right):
+    """The position of the first value in the row that is not right, or stands ahead; None if there is none."""
+    # What is right is a list of bools, and no function: operators check stairs, and call nothing that is passed.
+    for at, (value, is_right) in enumerate(zip(row, right)):
+        # All values ahead are right ones here, so that comparing with them is safe, whatever the rest is.
+        if not is_right or value in row[:at]:
+            return at
+    return None
+
+
+def check_lengths(lengths):
+    """Refuse lengths unless each one is a length, and none stands there twice."""
+    wrong = first_wrong(lengths, [is_length(length) for length in lengths])
+    if wrong is not None:
+        raise InvalidLengths(wrong)
+
+
+def check_count(value):
+    """Refuse any value that is no COUNT."""
+    if not is_count(value):
+        raise InvalidCount(value)
+
+
+def check_thing(stair, thing):
+    """Refuse any value that is no thing of the stair."""
+    if thing not in stair:
+        raise InvalidThing(thing)
+
+
+def check_way(stair, way):
+    """Refuse any value that is no way of the stair."""
+    if not is_way(stair, way):
+        raise InvalidWay(way)
+
+
+def check_score(stair, score):
+    """Refuse any value that is no score of things of the stair."""
+    if not is_score(stair, score):
+        raise InvalidScore(score)
+
+
+def check_same_steps(one, other):
+    """Refuse two stairs with unlike numbers of steps."""
+    if one.steps != other.steps:
+        raise OtherSteps(one.steps, other.steps)

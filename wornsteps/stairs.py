@@ -1,0 +1,107 @@
+"""Stairs: steps, the jumps between their places, and what can be done with them."""
+
+from wornsteps.checks import check_lengths, check_same_steps, first_wrong, is_jump, is_list, is_number, is_way
+from wornsteps.errors import InvalidJump, InvalidJumps, InvalidSteps, TooMany
+
+
+def check_steps(steps):
+    """Refuse any value that is no number of steps."""
+    if not is_number(steps) or not 1 <= steps <= Stair.MOST_STEPS:
+        raise InvalidSteps(steps)
+
+
+def check_jumps(steps, jumps):
+    """Refuse any value that is no list of unlike jumps between these places, or of too many."""
+    if not is_list(jumps):
+        raise InvalidJumps(None)
+    wrong = first_wrong(jumps, [is_jump(steps, jump) for jump in jumps])
+    if wrong is not None:
+        raise InvalidJumps(wrong)
+    if len(jumps) > Stair.MOST_JUMPS:
+        raise TooMany("jumps", Stair.MOST_JUMPS)
+
+
+class Stair:
+    """A stair: its steps, numbered from 1, and its jumps; it never changes."""
+
+    MOST_STEPS = 10
+    MOST_JUMPS = 40
+
+    def __init__(self, steps, jumps):
+        check_steps(steps)
+        check_jumps(steps, jumps)
+        self._steps = steps
+        self._jumps = sorted([(i, j) for i, j in jumps])
+
+    @staticmethod
+    def of(steps, *lengths):
+        """The stair with all jumps of these lengths."""
+        check_steps(steps)
+        check_lengths(lengths)
+        return Stair(steps, [(i, i + length) for length in lengths for i in range(steps + 2 - length)])
+
+    @property
+    def steps(self):
+        """How many steps there are."""
+        return self._steps
+
+    @property
+    def head(self):
+        """The place behind the last step."""
+        return self._steps + 1
+
+    def jumps(self):
+        """The sorted list of the jumps."""
+        return list(self._jumps)
+
+    def things(self):
+        """The list of the things, in order."""
+        return ["feet"] + list(range(1, self._steps + 1)) + self._jumps
+
+    def lengths(self):
+        """The sorted list of the lengths of the jumps, each once."""
+        return sorted({j - i for i, j in self._jumps})
+
+    def is_part_of(self, other):
+        """Whether the other stair has as many steps, and each jump of this one."""
+        return self._steps == other._steps and all([jump in other._jumps for jump in self._jumps])
+
+    def __len__(self):
+        return len(self._jumps)
+
+    def __contains__(self, x):
+        if isinstance(x, str):
+            return x == "feet"
+        if is_number(x):
+            return 1 <= x <= self._steps
+        return is_jump(self._steps, x) and x in self._jumps
+
+    def __iter__(self):
+        return iter(self._jumps)
+
+    def __call__(self, value):
+        return is_way(self, value)
+
+    def __add__(self, other):
+        if not is_jump(self._steps, other):
+            raise InvalidJump(other)
+        return Stair(self._steps, [jump for jump in self._jumps if jump != other] + [other])
+
+    def __sub__(self, other):
+        if not is_jump(self._steps, other) or other not in self._jumps:
+            raise InvalidJump(other)
+        return Stair(self._steps, [jump for jump in self._jumps if jump != other])
+
+    def __or__(self, other):
+        check_same_steps(self, other)
+        return Stair(self._steps, self._jumps + [jump for jump in other._jumps if jump not in self._jumps])
+
+    def __and__(self, other):
+        check_same_steps(self, other)
+        return Stair(self._steps, [jump for jump in self._jumps if jump in other._jumps])
+
+    def __eq__(self, other):
+        return isinstance(other, Stair) and self._steps == other._steps and self._jumps == other._jumps
+
+    def __repr__(self):
+        return f"Stair({self._steps}, {self._jumps})"
