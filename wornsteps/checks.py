@@ -1,4 +1,4 @@
-"""Which values are valid, and the errors that belong to parameters of a name everywhere."""
+"""Which values are valid, and the checks of parameters, each with the error that belongs to its name."""
 
 from wornsteps.errors import InvalidCount, InvalidLengths, InvalidScore, InvalidThing, InvalidWay, OtherSteps
 
@@ -34,15 +34,16 @@ def is_jump(steps, value):
     return is_number(i) and is_number(j) and 0 <= i < j <= steps + 1
 
 
-def is_way(stair, value):
-    """Whether any value is a way of the stair."""
+def is_run(stair, value):
+    """Whether any value is a tuple of two or more places, with a jump of the stair from each to the next."""
     if not isinstance(value, tuple) or len(value) < 2:
         return False
-    if not all([is_number(place) for place in value]):
-        return False
-    if value[0] != 0 or value[-1] != stair.head:
-        return False
     return all([jump in stair for jump in zip(value, value[1:])])
+
+
+def is_way(stair, value):
+    """Whether any value is a way of the stair."""
+    return is_run(stair, value) and value[0] == 0 and value[-1] == stair.head
 
 
 def is_score(stair, value):
