@@ -42,6 +42,27 @@ def names_of(tree):
     return assigned + [node.name for node in tree.body if isinstance(node, (ast.FunctionDef, ast.ClassDef))]
 
 
+def base_of(node):
+    """The name, with its attributes, of what a name, an attribute or an item of it belongs to."""
+    while isinstance(node, ast.Subscript):
+        node = node.value
+    return ast.unparse(node)
+
+
+def names_in(node):
+    """All names, also with their attributes, that stand in some code."""
+    return [ast.unparse(part) for part in ast.walk(node) if isinstance(part, (ast.Name, ast.Attribute))]
+
+
+def changes(node):
+    """Rows of what some code changes by a sign such as +=, by extend or by update, and what that gets."""
+    if isinstance(node, ast.AugAssign):
+        return [(base_of(node.target), node.value)]
+    if isinstance(node, ast.Call) and getattr(node.func, "attr", "") in ("extend", "update"):
+        return [(base_of(node.func.value), added) for added in node.args]
+    return []
+
+
 class Files(unittest.TestCase):
     def test_the_folder_contains_only_files_of_code_with_plain_names(self):
         self.assertTrue(sources())
@@ -100,6 +121,11 @@ class Code(unittest.TestCase):
                 if isinstance(word, str):
                     self.assertNotIn(word, BARRED_NAMES, name)
                     self.assertRegex(word, r"^(_|_?[A-Za-z][A-Za-z0-9_]*|__[a-z]+__)$")
+
+    def test_what_is_added_is_not_what_is_changed(self):
+        for name, node in nodes():
+            for changed, added in changes(node):
+                self.assertNotIn(changed, names_in(added), (name, node.lineno))
 
     def test_any_all_sum_and_the_like_take_lists(self):
         for name, node in nodes():

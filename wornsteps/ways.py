@@ -8,7 +8,7 @@ def many_from(stair):
     """The list that tells, for each place, how many ways lead from there to the head."""
     many = [0] * stair.head + [1]
     for i, j in sorted(stair.jumps(), reverse=True):
-        many[i] += many[j]
+        many[i] = many[i] + many[j]
     return many
 
 
@@ -16,7 +16,7 @@ def many_to(stair):
     """The list that tells, for each place, how many ways lead from the foot to there."""
     many = [1] + [0] * stair.head
     for i, j in stair.jumps():
-        many[j] += many[i]
+        many[j] = many[j] + many[i]
     return many
 
 
