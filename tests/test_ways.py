@@ -3,9 +3,11 @@
 import inspect
 import itertools
 import unittest
+from fractions import Fraction
 
-from tests.samples import forty_jumps, plain_passed, plain_ways, some_scores, some_stairs
+from tests.samples import all_jumps, forty_jumps, plain_passed, plain_ways, some_scores, some_stairs
 from wornsteps import ways
+from wornsteps.errors import InvalidScore
 from wornsteps.stairs import Stair
 from wornsteps.ways import (all_ways, dead, highest, lowest, many_ways, passed, place_of, score_of, through,
                             way_at)
@@ -114,6 +116,34 @@ class Scores(unittest.TestCase):
                 for way in plain_ways(stair)[:40]:
                     expected = sum(score.get(thing, 0) for thing in plain_passed(stair, way))
                     self.assertEqual(score_of(stair, way, score), expected)
+
+    def test_all_ways_of_a_large_stair_by_a_score_of_all_its_things(self):
+        short = [jump for jump in all_jumps(10) if jump[1] - jump[0] <= 4]
+        for stair, many in ((Stair(10, short), 773), (Stair(10, short + [(0, 10), (0, 11)]), 775)):
+            score = {thing: (-1) ** k * (37 * k % 1001) for k, thing in enumerate(stair.things())}
+            self.assertEqual((len(score), min(score.values()) < 0), (11 + len(stair), True))
+            rows = plain_ways(stair)
+            self.assertEqual(len(rows), many)
+            for way in rows:
+                expected = score["feet"]
+                for k, place in enumerate(way[1:]):
+                    expected += score[(way[k], place)] + (score[place] if place != 11 else 0)
+                self.assertEqual(score_of(stair, way, score), expected)
+
+    def test_a_score_of_all_things_is_checked_to_its_last_one(self):
+        stair = Stair(10, forty_jumps())
+        for thing in stair.things():
+            for number in (True, 1001, -1001, None, "1", (1,)):
+                score = {other: 5 for other in reversed(stair.things())}
+                score[thing] = number
+                with self.assertRaises(InvalidScore) as caught:
+                    score_of(stair, (0, 11), score)
+                self.assertIs(caught.exception.value, score)
+        for wrong in (True, (0, True), (False, 1), (True, 2), "foot", 11, (1, 11), Fraction(3), (0, Fraction(4)), 3 + 0j):
+            score = {thing: 5 for thing in stair.things() if thing != wrong}
+            score[wrong] = 5
+            with self.assertRaises(InvalidScore):
+                score_of(stair, (0, 11), score)
 
     def test_highest_and_lowest_with_the_first_way_of_ties(self):
         for stair in some_stairs():

@@ -34,37 +34,36 @@ def is_jump(steps, value):
     return is_number(i) and is_number(j) and 0 <= i < j <= steps + 1
 
 
-def is_run(stair, value):
-    """Whether any value is a tuple of two or more places, with a jump of the stair from each to the next."""
-    if not isinstance(value, tuple) or len(value) < 2:
-        return False
-    return all([jump in stair for jump in zip(value, value[1:])])
-
-
 def is_way(stair, value):
     """Whether any value is a way of the stair."""
-    return is_run(stair, value) and value[0] == 0 and value[-1] == stair.head
+    return stair.is_run(value) and value[0] == 0 and value[-1] == stair.head
 
 
 def is_score(stair, value):
     """Whether any value is a score of things of the stair."""
-    if not isinstance(value, dict):
-        return False
-    return all([thing in stair and is_score_number(value[thing]) for thing in value])
+    return isinstance(value, dict) and are_score_numbers(value) and stair.has_things(value)
 
 
-def is_score_number(value):
-    """Whether any value is a number that a score can have for a thing."""
-    return is_number(value) and -MOST_SCORE <= value <= MOST_SCORE
+def are_score_numbers(table):
+    """Whether each value of a dict is a number that a score can have for a thing."""
+    # One loop, and no call for each number: scores of all things of a stair are checked again and again.
+    for number in table.values():
+        if not isinstance(number, int) or number is True or number is False:
+            return False
+        if not -MOST_SCORE <= number <= MOST_SCORE:
+            return False
+    return True
 
 
 def first_wrong(row, right):
     """The position of the first value in the row that is not right, or stands ahead; None if there is none."""
     # What is right is a list of bools, and no function: operators check stairs, and call nothing that is passed.
+    ahead = {}
     for at, (value, is_right) in enumerate(zip(row, right)):
-        # All values ahead are right ones here, so that comparing with them is safe, whatever the rest is.
-        if not is_right or value in row[:at]:
+        # Only right values are looked up, so that this is safe, whatever the rest is.
+        if not is_right or value in ahead:
             return at
+        ahead[value] = True
     return None
 
 

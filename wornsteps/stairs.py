@@ -32,6 +32,8 @@ class Stair:
         check_jumps(steps, jumps)
         self._steps = steps
         self._jumps = sorted([(i, j) for i, j in jumps])
+        # In a dict a thing is found at once, however many there are.
+        self._table = {thing: True for thing in self.things()}
 
     @staticmethod
     def of(steps, *lengths):
@@ -62,9 +64,37 @@ class Stair:
         """The sorted list of the lengths of the jumps, each once."""
         return sorted({j - i for i, j in self._jumps})
 
+    def is_run(self, value):
+        """Whether any value is a tuple of two or more places, with a jump of the stair from each to the next."""
+        if not isinstance(value, tuple) or len(value) < 2:
+            return False
+        for place in value:
+            if not isinstance(place, int) or place is True or place is False:
+                return False
+        known = self._table
+        for jump in zip(value, value[1:]):
+            if jump not in known:
+                return False
+        return True
+
+    def has_things(self, table):
+        """Whether each key of a dict is one of the things."""
+        known = self._table
+        for thing in table:
+            if thing not in known:
+                return False
+            # Equal is not enough: True equals 1, but it is no step, and (0, True) is no jump.
+            if isinstance(thing, tuple):
+                i, j = thing
+                if not isinstance(i, int) or not isinstance(j, int) or i is True or i is False or j is True:
+                    return False
+            elif not isinstance(thing, (int, str)) or thing is True:
+                return False
+        return True
+
     def is_part_of(self, other):
         """Whether the other stair has as many steps, and each jump of this one."""
-        return self._steps == other._steps and all([jump in other._jumps for jump in self._jumps])
+        return self._steps == other._steps and all([jump in other._table for jump in self._jumps])
 
     def __len__(self):
         return len(self._jumps)
@@ -74,7 +104,7 @@ class Stair:
             return x == "feet"
         if is_number(x):
             return 1 <= x <= self._steps
-        return is_jump(self._steps, x) and x in self._jumps
+        return is_jump(self._steps, x) and x in self._table
 
     def __iter__(self):
         return iter(self._jumps)
@@ -88,17 +118,17 @@ class Stair:
         return Stair(self._steps, [jump for jump in self._jumps if jump != other] + [other])
 
     def __sub__(self, other):
-        if not is_jump(self._steps, other) or other not in self._jumps:
+        if not is_jump(self._steps, other) or other not in self._table:
             raise InvalidJump(other)
         return Stair(self._steps, [jump for jump in self._jumps if jump != other])
 
     def __or__(self, other):
         check_same_steps(self, other)
-        return Stair(self._steps, self._jumps + [jump for jump in other._jumps if jump not in self._jumps])
+        return Stair(self._steps, self._jumps + [jump for jump in other._jumps if jump not in self._table])
 
     def __and__(self, other):
         check_same_steps(self, other)
-        return Stair(self._steps, [jump for jump in self._jumps if jump in other._jumps])
+        return Stair(self._steps, [jump for jump in self._jumps if jump in other._table])
 
     def __eq__(self, other):
         return isinstance(other, Stair) and self._steps == other._steps and self._jumps == other._jumps
