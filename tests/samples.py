@@ -78,3 +78,70 @@ def some_scores(stair):
         chosen = chance.sample(things, chance.randint(1, len(things)))
         rows.append({thing: chance.randint(-2, 2) for thing in chosen})
     return rows
+
+
+def large_stair():
+    """A stair of ten steps with forty jumps."""
+    return Stair(10, forty_jumps())
+
+
+def small_stairs(most_ways):
+    """Stairs of one to three steps with at most so many ways; some have none, and dead things."""
+    chance = random.Random(31)
+    rows = [Stair(1, []), Stair(1, [(0, 2)]), Stair(1, [(0, 1), (0, 2), (1, 2)]), Stair.of(2, 1, 2), Stair.of(3, 1, 2),
+            Stair(2, [(0, 1), (1, 2)]), Stair(3, [(0, 1), (0, 2), (1, 4), (2, 4), (3, 4)])]
+    for steps in (1, 2, 3):
+        jumps = all_jumps(steps)
+        for _ in range(12):
+            rows.append(Stair(steps, chance.sample(jumps, chance.randint(len(jumps) // 2, len(jumps)))))
+    return [stair for stair in rows if len(plain_ways(stair)) <= most_ways]
+
+
+def plain_total(stair, table, way):
+    """What a dict from things to numbers has together for the things that a way passes."""
+    return sum(table.get(thing, 0) for thing in plain_passed(stair, way))
+
+
+def plain_wears(stair, ways):
+    """The dict from all things to how many feet pass each, by a dict of ways."""
+    lists = [(plain_passed(stair, way), many) for way, many in ways.items()]
+    return {thing: sum(many for row, many in lists if thing in row) for thing in stair.things()}
+
+
+def plain_worth(told, prices):
+    """The worth of prices by a dict from things to marks; None if there is none."""
+    if any(price > 0 and told.get(thing, (0, None))[1] is None for thing, price in prices.items()):
+        return None
+    return sum(price * told.get(thing, (0, None))[price > 0] for thing, price in prices.items())
+
+
+def lets(told, worn):
+    """Whether wears lie within marks."""
+    return all(low <= worn[thing] and (high is None or worn[thing] <= high) for thing, (low, high) in told.items())
+
+
+def some_feet(stair, most):
+    """All dicts of ways with at most so many feet together."""
+    ways = plain_ways(stair)
+    rows = []
+    for counts in itertools.product(range(most + 1), repeat=len(ways)):
+        if sum(counts) <= most:
+            rows.append({way: many for way, many in zip(ways, counts) if many})
+    return rows
+
+
+def chance_ways(chance, stair, unlike, most):
+    """A dict of up to so many unlike ways, with up to so many feet each."""
+    ways = plain_ways(stair)
+    chosen = chance.sample(ways, min(unlike, len(ways)))
+    return {way: chance.randint(1, most) for way in chosen}
+
+
+def chance_marks(chance, stair, unlike, most, slack):
+    """Marks of chance: a dict from things to marks about the wears of a crowd, some of which may not be let."""
+    worn = plain_wears(stair, chance_ways(chance, stair, unlike, most))
+    told = {}
+    for thing in chance.sample(stair.things(), chance.randint(0, len(stair.things()))):
+        low = max(0, worn[thing] - chance.choice([0, 0, 1, slack]) + chance.choice([0, 0, 0, 0, 0, slack]))
+        told[thing] = (low, chance.choice([None, low, low + slack, max(low, worn[thing])]))
+    return told

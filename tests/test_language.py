@@ -21,6 +21,13 @@ LIBRARY = {"heapq": "heappush heappop heapify heapreplace heappushpop".split(),
 BARRED_NAMES = """register mro elements open input law version_info with_traceback add_note type typing enum Enum
 dataclass eval exec getattr setattr hasattr delattr globals locals vars dir id compile""".split()
 
+# Running examples gives "_" a meaning for a time, which is none of Python's own.
+BUILTIN_NAMES = set(dir(builtins)) - {"_"}
+
+# What the arithmetic signs and the like run.
+OPERATORS = """__lt__ __le__ __gt__ __ge__ __ne__ __add__ __sub__ __mul__ __rmul__ __and__ __or__ __neg__ __bool__
+__contains__ __getitem__ __eq__ __repr__ __str__ __len__""".split()
+
 BARRED_NODES = (ast.Global, ast.AsyncFunctionDef, ast.AsyncFor, ast.AsyncWith, ast.Await, ast.Import, ast.Div)
 
 
@@ -61,6 +68,84 @@ def changes(node):
     if isinstance(node, ast.Call) and getattr(node.func, "attr", "") in ("extend", "update"):
         return [(base_of(node.func.value), added) for added in node.args]
     return []
+
+
+def functions():
+    """Rows of all functions and methods: the file's name, the class's name or None, and the code."""
+    rows = []
+    for name, tree in trees():
+        rows.extend((name, None, node) for node in tree.body if isinstance(node, ast.FunctionDef))
+        for group in tree.body:
+            if isinstance(group, ast.ClassDef):
+                rows.extend((name, group.name, node) for node in group.body if isinstance(node, ast.FunctionDef))
+    return rows
+
+
+def called(node):
+    """The names of the functions and methods that some code calls; a class stands for its __init__."""
+    return {getattr(part.func, "id", getattr(part.func, "attr", "")) for part in ast.walk(node)
+            if isinstance(part, ast.Call)}
+
+
+def run_by_operators():
+    """The rows of all that an operator or a property may run, found by names alone."""
+    rows = functions()
+    begun = [row for row in rows if row[2].name in OPERATORS or "property" in map(ast.unparse, row[2].decorator_list)]
+    found = []
+    while begun:
+        row = begun.pop()
+        if row not in found:
+            found.append(row)
+            names = called(row[2])
+            begun.extend(other for other in rows if other[2].name in names or (
+                other[2].name == "__init__" and other[1] in names))
+    return found
+
+
+def own_lists(function):
+    """The names of what a function creates itself, and may change even if an operator runs it."""
+    kinds = (ast.List, ast.Dict, ast.ListComp)
+    return {node.targets[0].id for node in ast.walk(function) if isinstance(node, ast.Assign) and isinstance(
+        node.targets[0], ast.Name) and (isinstance(node.value, kinds) or isinstance(node.value, ast.Call) and getattr(
+            node.value.func, "id", "") in ("list", "dict", "sorted"))}
+
+
+def stored(function):
+    """The targets of a function's assignments, and the lists of which it calls a method that changes them."""
+    rows = []
+    for node in ast.walk(function):
+        if isinstance(node, (ast.Attribute, ast.Subscript)) and isinstance(node.ctx, (ast.Store, ast.Del)):
+            rows.append(node)
+        if isinstance(node, ast.Call) and isinstance(node.func, ast.Attribute) and node.func.attr in (
+                "append clear extend insert pop remove reverse setdefault update sort add discard").split():
+            rows.append(ast.Subscript(node.func.value, ast.Constant(0)))
+    return rows
+
+
+class Operators(unittest.TestCase):
+    def test_they_change_only_what_they_create_themselves(self):
+        self.assertGreater(len(run_by_operators()), 30)
+        for name, _, function in run_by_operators():
+            for target in stored(function):
+                if isinstance(target, ast.Attribute):
+                    self.assertEqual((function.name, ast.unparse(target.value)), ("__init__", "self"), name)
+                else:
+                    self.assertIn(ast.unparse(target.value), own_lists(function), (name, function.name))
+
+    def test_they_add_only_literal_numbers_in_place(self):
+        for name, _, function in run_by_operators():
+            for node in ast.walk(function):
+                if isinstance(node, ast.AugAssign):
+                    plain = isinstance(node.target, ast.Name) and isinstance(node.value, ast.Constant)
+                    self.assertTrue(plain, (name, function.name))
+
+    def test_they_call_no_object_and_no_parameter(self):
+        known = {function.name for _, _, function in functions()} | set(BUILTINS)
+        classes = {node.name for _, node in nodes() if isinstance(node, ast.ClassDef)}
+        for name, _, function in run_by_operators():
+            for node in ast.walk(function):
+                if isinstance(node, ast.Call) and isinstance(node.func, ast.Name):
+                    self.assertIn(node.func.id, known | classes | set(LIBRARY["math"]), (name, function.name))
 
 
 class Files(unittest.TestCase):
@@ -109,11 +194,13 @@ class Code(unittest.TestCase):
 
     def test_only_some_builtins_are_used_and_none_has_another_meaning(self):
         for name, node in nodes():
-            if isinstance(node, ast.Name) and hasattr(builtins, node.id):
+            if isinstance(node, ast.Name) and node.id in BUILTIN_NAMES:
                 self.assertIsInstance(node.ctx, ast.Load, (name, node.lineno))
                 self.assertIn(node.id, BUILTINS, (name, node.lineno))
             if isinstance(node, ast.arg):
-                self.assertFalse(hasattr(builtins, node.arg), (name, node.arg))
+                self.assertNotIn(node.arg, BUILTIN_NAMES, (name, node.arg))
+            if isinstance(node, (ast.FunctionDef, ast.ClassDef)):
+                self.assertNotIn(node.name, BUILTIN_NAMES, name)
 
     def test_names(self):
         for name, node in nodes():
@@ -126,6 +213,48 @@ class Code(unittest.TestCase):
         for name, node in nodes():
             for changed, added in changes(node):
                 self.assertNotIn(changed, names_in(added), (name, node.lineno))
+
+    def test_no_name_of_a_class_or_an_import_is_given_to_anything_else(self):
+        for name, tree in trees():
+            taken = {alias.name for node in tree.body if isinstance(node, ast.ImportFrom) for alias in node.names}
+            taken |= {node.name for node in tree.body if isinstance(node, ast.ClassDef)}
+            for node in ast.walk(tree):
+                if isinstance(node, ast.Name) and isinstance(node.ctx, (ast.Store, ast.Del)):
+                    self.assertNotIn(node.id, taken, (name, node.lineno))
+                if isinstance(node, ast.arg):
+                    self.assertNotIn(node.arg, taken, (name, node.arg))
+            self.assertEqual(len(names_of(tree)), len(set(names_of(tree))), name)
+
+    def test_no_attribute_has_the_name_of_a_method_or_a_property(self):
+        methods = {function.name for _, owner, function in functions() if owner}
+        for name, node in nodes():
+            if isinstance(node, ast.Attribute) and isinstance(node.ctx, ast.Store):
+                self.assertNotIn(node.attr, methods, (name, node.lineno))
+
+    def test_no_file_imports_from_one_that_imports_from_it(self):
+        imports = {f"wornsteps.{name[:-3]}": [node.module for node in tree.body if isinstance(node, ast.ImportFrom)]
+                   for name, tree in trees()}
+        left = dict(imports)
+        while left:
+            free = [name for name in left if not any(other in left for other in left[name])]
+            self.assertTrue(free, sorted(left))
+            for name in free:
+                del left[name]
+
+    def test_no_sort_in_place_and_no_set_that_is_kept(self):
+        for name, node in nodes():
+            if isinstance(node, ast.Attribute):
+                self.assertNotEqual(node.attr, "sort", (name, node.lineno))
+            if isinstance(node, (ast.For, ast.comprehension)):
+                self.assertNotIsInstance(node.iter, (ast.Set, ast.SetComp), name)
+
+    def test_what_a_loop_goes_over_is_not_changed_in_it(self):
+        for name, loop in nodes():
+            if isinstance(loop, ast.For) and isinstance(loop.iter, (ast.Name, ast.Attribute, ast.Subscript, ast.Call)):
+                over = names_in(loop.iter)
+                for part in loop.body:
+                    for target in stored(part):
+                        self.assertNotIn(base_of(target), over, (name, loop.lineno))
 
     def test_any_all_sum_and_the_like_take_lists(self):
         for name, node in nodes():

@@ -1,9 +1,13 @@
 """Which values are valid, and the checks of parameters, each with the error that belongs to its name."""
 
-from wornsteps.errors import InvalidCount, InvalidLengths, InvalidScore, InvalidThing, InvalidWay, OtherSteps
+from math import gcd
+
+from wornsteps.errors import (InvalidCount, InvalidLengths, InvalidPrices, InvalidRun, InvalidScore, InvalidThing,
+                              InvalidWay, OtherStair, OtherSteps)
 
 MOST_LENGTH = 11
 MOST_SCORE = 1000
+FREE = (0, None)
 
 
 def is_number(value):
@@ -55,6 +59,43 @@ def are_score_numbers(table):
     return True
 
 
+def is_step(stair, value):
+    """Whether any value is a step of the stair."""
+    return is_number(value) and 1 <= value <= stair.steps
+
+
+def is_mark(value):
+    """Whether any value is a mark."""
+    if not isinstance(value, tuple) or len(value) != 2:
+        return False
+    low, high = value
+    return is_count(low) and (high is None or is_number(high) and high >= low)
+
+
+def is_within(mark, outer):
+    """Whether all numbers that a mark lets are let by another one, too."""
+    low, high = outer
+    return low <= mark[0] and (high is None or mark[1] is not None and mark[1] <= high)
+
+
+def is_fraction(value):
+    """Whether any value is a FRACTION: in lowest terms, with a bottom of at least 1."""
+    if not isinstance(value, tuple) or len(value) != 2:
+        return False
+    top, bottom = value
+    return is_number(top) and is_number(bottom) and bottom >= 1 and gcd(top, bottom) == 1
+
+
+def are_prices_of(stair, value):
+    """Whether any value is prices of things of the stair."""
+    if not isinstance(value, dict):
+        return False
+    for number in value.values():
+        if not is_number(number) or number == 0:
+            return False
+    return stair.has_things(value)
+
+
 def first_wrong(row, right):
     """The position of the first value in the row that is not right, or stands ahead; None if there is none."""
     # What is right is a list of bools, and no function: operators check stairs, and call nothing that is passed.
@@ -96,6 +137,24 @@ def check_score(stair, score):
     """Refuse any value that is no score of things of the stair."""
     if not is_score(stair, score):
         raise InvalidScore(score)
+
+
+def check_run(stair, run):
+    """Refuse any value that is no run of the stair."""
+    if not stair.is_run(run):
+        raise InvalidRun(run)
+
+
+def check_prices(stair, prices):
+    """Refuse any value that is no prices of things of the stair."""
+    if not are_prices_of(stair, prices):
+        raise InvalidPrices(prices)
+
+
+def check_same_stair(one, other):
+    """Refuse two stairs that are unlike."""
+    if not one == other:
+        raise OtherStair(one, other)
 
 
 def check_same_steps(one, other):

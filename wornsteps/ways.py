@@ -102,19 +102,51 @@ def total_on(way, table):
     return sum([table.get(thing, 0) for thing in things_on(way)])
 
 
+def totals_on(jumps, head, table):
+    """For each place the greatest total of a way on from there, by what a dict has for things, and the next place.
+
+    The jumps are sorted. The total is that of the jumps and of the steps behind the place; both are None without a
+    way on.
+    """
+    most = [None] * head + [0]
+    following = [None] * (head + 1)
+    for jump in jumps[::-1]:
+        i, j = jump
+        if most[j] is not None:
+            total = most[j] + table.get(j, 0) + table.get(jump, 0)
+            # Lesser places j come later here; of equal totals the first way is wanted, so the later one.
+            if most[i] is None or total >= most[i]:
+                most[i] = total
+                following[i] = j
+    return most, following
+
+
+def greatest_total(stair, table):
+    """The greatest total of a way by a dict from things to numbers; None without a way."""
+    most, _ = totals_on(stair.jumps(), stair.head, table)
+    return None if most[0] is None else most[0] + table.get("feet", 0)
+
+
 def greatest_way(stair, table):
     """The tuple (total, way) of the first way with the greatest total by the table; None without a way."""
-    best = {stair.head: (0, (stair.head,))}
-    for i, j in sorted(stair.jumps(), reverse=True):
-        if j in best:
-            total = table.get(i, 0) + table.get((i, j), 0) + best[j][0]
-            # Lesser places j come later here; of equal totals the first way is wanted, so the later one.
-            if i not in best or total >= best[i][0]:
-                best[i] = (total, (i,) + best[j][1])
-    if 0 not in best:
+    most, following = totals_on(stair.jumps(), stair.head, table)
+    if most[0] is None:
         return None
-    total, way = best[0]
-    return total + table.get("feet", 0), way
+    way = [0]
+    while way[-1] != stair.head:
+        way.append(following[way[-1]])
+    return most[0] + table.get("feet", 0), tuple(way)
+
+
+def turned(table):
+    """The dict with all numbers turned about."""
+    return {thing: -table[thing] for thing in table}
+
+
+def cheapest_way(stair, table):
+    """The tuple (total, way) of the first way with the least total by the table; None without a way."""
+    found = greatest_way(stair, turned(table))
+    return None if found is None else (-found[0], found[1])
 
 
 def score_of(stair, way, score):
@@ -133,5 +165,4 @@ def highest(stair, score):
 def lowest(stair, score):
     """The tuple (score, way) of the first way with the lowest score; None without a way."""
     check_score(stair, score)
-    found = greatest_way(stair, {thing: -score[thing] for thing in score})
-    return None if found is None else (-found[0], found[1])
+    return cheapest_way(stair, score)
