@@ -13,14 +13,62 @@ STAGE_1 = """
 [['feet', 1, (0, 1), (1, 3)], (2, (0, 1, 2, 3)), [1, (1, 2), (1, 3)], Stair(2, [(0, 2), (1, 2), (1, 3), (2, 3)])]
 """
 
+STAGE_2 = """
+>>> from wornsteps.crowds import Crowd
+>>> from wornsteps.flows import along_greatest, along_least, are_exchanges, split
+>>> crowd = Crowd.of(stair, (0, 1, 2, 3), (0, 1, 3)) + (0, 2, 3)
+>>> [crowd.feet, crowd.wears(), crowd.along((0, 1, 2)), crowd * 2 - (0, 1, 3)]
+[3, {'feet': 3, 1: 2, 2: 2, (0, 1): 2, (0, 2): 1, (1, 2): 1, (1, 3): 1, (2, 3): 2}, 1, Crowd(Stair(2, [(0, 1), (0, 2), (1, 2), (1, 3), (2, 3)]), {(0, 1, 2, 3): 2, (0, 1, 3): 1, (0, 2, 3): 2})]
+>>> three = Stair.of(3, 1, 2)
+>>> one, other = Crowd.of(three, (0, 1, 2, 3, 4), (0, 2, 4)), Crowd.of(three, (0, 1, 2, 4), (0, 2, 3, 4))
+>>> [one.flow() == other.flow(), are_exchanges(one, other, [((0, 1, 2, 3, 4), (0, 2, 4), 2, 1)]), along_least(three, one.flow(), (1, 2, 3)), along_greatest(three, one.flow(), (1, 2, 3))]
+[True, True, 0, 1]
+"""
+
+STAGE_3 = """
+>>> from wornsteps.fits import does_fit, is_clash, worth
+>>> from wornsteps.marks import Marks
+>>> marks = Marks(stair, {1: (3, 3), 2: (1, 1)})
+>>> [does_fit(marks), marks(Crowd(stair, {(0, 1, 2, 3): 1, (0, 1, 3): 2})), marks(crowd), marks["feet"]]
+[True, True, False, (0, None)]
+>>> none = marks.with_mark((1, 3), 0, 1)
+>>> [does_fit(none), is_clash(none, {1: -1, 2: 1, (1, 3): 1}), worth(none, {1: -1, 2: 1, (1, 3): 1}), is_clash(none, {1: -1})]
+[False, True, -1, False]
+"""
+
+STAGE_4 = """
+>>> from wornsteps.scores import are_prices, greatest, least, range_of, sure
+>>> [range_of(marks, "feet"), range_of(marks, (1, 3)), greatest(marks, {"feet": 1, (1, 2): 5}), sure(marks)]
+[(3, 4), (2, 3), 8, ['feet', 1, 2, (0, 1), (1, 3), (2, 3)]]
+>>> [are_prices(marks, {(1, 3): -1}, -2, {1: -1, 2: 1}), least(marks, {(0, 2): 1}), are_prices(marks, {(0, 2): 1}, 1, {2: 1})]
+[True, 0, True]
+"""
+
+STAGE_7 = """
+>>> from wornsteps.habits import Habit, JustOnce, Study, Without
+>>> from wornsteps.shares import fitting_shares, is_denial, share_greatest, surely_there
+>>> study = Study(three, {"once": JustOnce(2)})
+>>> each = {1: (1, 1), 2: (1, 1), 3: (1, 1)}
+>>> [study.pairs(), fitting_shares(study, each), share_greatest(study, each, {"once": 2})]
+[[('once', (0, 1, 2, 4)), ('once', (0, 1, 3, 4)), ('once', (0, 2, 3, 4))], {('once', (0, 1, 2, 4)): (1, 2), ('once', (0, 1, 3, 4)): (1, 2), ('once', (0, 2, 3, 4)): (1, 2)}, (3, 1)]
+>>> both = Study(three, {"once": JustOnce(2), "plain": Without(2)})
+>>> [len(both), surely_there(both, {"feet": (1, 1), 2: (0, 0)}), JustOnce(2)((0, 2, 3, 4)), JustOnce(2).reads([2, 1, 2])]
+[4, ['once'], True, None]
+"""
+
 
 class Examples(unittest.TestCase):
     def test_each_example_gives_what_stands_below_it(self):
-        example = doctest.DocTestParser().get_doctest(STAGE_1, {}, "stage 1", None, 0)
-        self.assertEqual(len(example.examples), 5)
-        report = []
-        found = doctest.DocTestRunner(verbose=False).run(example, out=report.append)
-        self.assertEqual(found.failed, 0, "".join(report))
+        # An example may use what one of a stage ahead of it made.
+        told = {}
+        for name, text, many in (("stage 1", STAGE_1, 5), ("stage 2", STAGE_2, 7), ("stage 3", STAGE_3, 6),
+                                 ("stage 4", STAGE_4, 3), ("stage 7", STAGE_7, 7)):
+            example = doctest.DocTestParser().get_doctest(text, told, name, None, 0)
+            self.assertEqual(len(example.examples), many, name)
+            report = []
+            found = doctest.DocTestRunner(verbose=False).run(example, out=report.append, clear_globs=False)
+            self.assertEqual(found.failed, 0, "".join(report))
+            told = example.globs
 
 
 if __name__ == "__main__":
