@@ -25,9 +25,9 @@ def wrong_crowds():
 
 def wrong_runs():
     """Values that are no run of the stair of test_ways_wrong."""
-    return odd_values() + [1, (), (0,), (3,), (0, 3), (1, 2), (0, 1, 2), (0, 1, 2, 3), (1, 0), (0, 0), [0, 1], (0, True),
-                           (False, 1), (True, 3), (0, 1, 3, 4), ((0, 1),), ((0, 1), (1, 3)), "01", (0, "1"), (0, None),
-                           (0, [1]), (-1, 1), {0: 1}, (0, EqualToAll())]
+    return odd_values() + [1, (), (0,), (3,), (0, 3), (1, 2), (0, 1, 2), (0, 1, 2, 3), (1, 0), (0, 0), [0, 1],
+                           (0, True), (False, 1), (True, 3), (0, 1, 3, 4), ((0, 1),), ((0, 1), (1, 3)), "01", (0, "1"),
+                           (0, None), (0, [1]), (-1, 1), {0: 1}, (0, EqualToAll())]
 
 
 class Refusals(unittest.TestCase):

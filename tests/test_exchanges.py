@@ -118,8 +118,9 @@ class Right(unittest.TestCase):
                 one = Crowd(stair, chance_ways(chance, stair, 6, 4))
                 other, rows = chance_exchanges(chance, one, 6)
                 for k, (first, second, step, many) in enumerate(rows):
-                    near = [(second, first, step, many), (first, second, step, many + 1), (first, second, step, many - 1),
-                            (first, second, step + 1, many), (first, second, step - 1, many), (first, first, step, many),
+                    near = [(second, first, step, many), (first, second, step, many + 1),
+                            (first, second, step, many - 1), (first, second, step + 1, many),
+                            (first, second, step - 1, many), (first, first, step, many),
                             (first, chance.choice(plain_ways(stair)), step, many)]
                     for row in near:
                         changed = rows[:k] + [row] + rows[k + 1:]
@@ -158,11 +159,11 @@ class Right(unittest.TestCase):
     def test_any_value(self):
         one, other = Crowd.of(three(), (0, 1, 2, 3, 4), (0, 2, 4)), Crowd.of(three(), (0, 1, 2, 4), (0, 2, 3, 4))
         right = ((0, 1, 2, 3, 4), (0, 2, 4), 2, 1)
-        rows = odd_values() + [0, 1, right, {0: right}, {right: 1}, [list(right)], [right[:3]], [right + (1,)], [[]], [()],
-                               [((0, 1, 2, 3, 4), (0, 2, 4), 2, 1), None]]
+        rows = odd_values() + [0, 1, right, {0: right}, {right: 1}, [list(right)], [right[:3]], [right + (1,)],
+                               [[]], [()], [((0, 1, 2, 3, 4), (0, 2, 4), 2, 1), None]]
         for k in range(4):
-            for wrong in odd_values() + [[1], (), (0, True, 2, 3, 4), (0, 1, 3, 4), [0, 2, 4], (0, 2, 5), -1, 0, 5, 10 ** 29,
-                                         (0, EqualToAll(), 4), ([0], 2, 4)]:
+            for wrong in odd_values() + [[1], (), (0, True, 2, 3, 4), (0, 1, 3, 4), [0, 2, 4], (0, 2, 5), -1, 0, 5,
+                                         10 ** 29, (0, EqualToAll(), 4), ([0], 2, 4)]:
                 if not (k == 3 and wrong is not True and wrong == 1 and isinstance(wrong, int)):
                     rows.append([right[:k] + (wrong,) + right[k + 1:]])
         for value in rows:

@@ -3,8 +3,8 @@
 import random
 import unittest
 
-from tests.samples import (chance_marks, large_stair, lets, odd_values, plain_passed, plain_total, plain_ways, plain_wears,
-                           plain_worth, small_stairs, some_feet, some_stairs)
+from tests.samples import (chance_marks, large_stair, lets, odd_values, plain_passed, plain_total, plain_ways,
+                           plain_wears, plain_worth, small_stairs, some_feet, some_stairs)
 from tests.test_crowds_wrong import Refusals
 from tests.test_ways_wrong import stair as four_jumps
 from tests.test_ways_wrong import wrong_things, wrong_ways
@@ -20,7 +20,8 @@ BIG = 10 ** 29
 def some_prices(chance, stair):
     """Prices of chance: none, of one thing, of some, of all, with ties and great numbers."""
     things = stair.things()
-    rows = [{}, {"feet": 3}, {chance.choice(things): -BIG}, {thing: 1 for thing in things}, {thing: -1 for thing in things}]
+    rows = [{}, {"feet": 3}, {chance.choice(things): -BIG}, {thing: 1 for thing in things},
+            {thing: -1 for thing in things}]
     for _ in range(4):
         chosen = chance.sample(things, chance.randint(1, len(things)))
         rows.append({thing: chance.choice([-2, -1, 1, 2, 3]) for thing in chosen})
@@ -70,8 +71,9 @@ class Prices(unittest.TestCase):
                 self.assertEqual(worth(marks, prices), expected)
         self.assertEqual(seen, {True, False})
         marks = Marks(Stair.of(2, 1, 2), {1: (2, None), 2: (0, 3), "feet": (BIG, None)})
-        self.assertEqual([worth(marks, {1: -2}), worth(marks, {1: 1}), worth(marks, {2: 5, 1: -1}), worth(marks, {(0, 1): 1}),
-                          worth(marks, {(0, 1): -7}), worth(prices={"feet": -1}, marks=marks), worth(marks, {})],
+        self.assertEqual([worth(marks, {1: -2}), worth(marks, {1: 1}), worth(marks, {2: 5, 1: -1}),
+                          worth(marks, {(0, 1): 1}), worth(marks, {(0, 1): -7}),
+                          worth(prices={"feet": -1}, marks=marks), worth(marks, {})],
                          [-4, None, 13, None, 0, -BIG, 0])
 
 
@@ -138,7 +140,8 @@ class Fitting(unittest.TestCase):
         self.assertEqual((does_fit(marks=marks), does_fit(none), fitting(marks=none)), (True, False, None))
         self.assertEqual((clash(marks=marks), plain_clash(marks=marks)), (None, None))
         right = {1: -1, 2: 1, (1, 3): 1}
-        self.assertEqual([is_clash(none, right), worth(none, right), is_clash(value={1: -1}, marks=none)], [True, -1, False])
+        self.assertEqual([is_clash(none, right), worth(none, right)], [True, -1])
+        self.assertIs(is_clash(value={1: -1}, marks=none), False)
 
 
 class Clashes(unittest.TestCase):

@@ -61,7 +61,8 @@ class Reading(unittest.TestCase):
             habit = Without(*barred)
             self.check(habit, moves, [0], short_rows())
             self.assertEqual((habit.moves(), habit.ends(), habit.barred), (moves, [0], sorted(barred)))
-        self.assertEqual((Without(3, 1).barred, repr(Without(3, 1)), repr(Without())), ([1, 3], "Without(1, 3)", "Without()"))
+        self.assertEqual(Without(3, 1).barred, [1, 3])
+        self.assertEqual((repr(Without(3, 1)), repr(Without())), ("Without(1, 3)", "Without()"))
 
     def test_just_once_a_length(self):
         for length in LENGTHS:
@@ -106,7 +107,8 @@ class Telling(unittest.TestCase):
 
     def test_equal(self):
         rows = [Habit({}, [0]), Habit({}, [1]), Habit({(0, 1): 0}, [0]), Habit({(0, 1): 1}, [0]), Without(2),
-                Habit(Without(2).moves(), [0]), Without(2, 3), JustOnce(2), JustOnce(3), Habit(JustOnce(2).moves(), [1])]
+                Habit(Without(2).moves(), [0]), Without(2, 3), JustOnce(2), JustOnce(3),
+                Habit(JustOnce(2).moves(), [1])]
         for k, one in enumerate(rows):
             self.assertEqual([one == other for other in rows], [at == k for at in range(len(rows))])
             self.assertEqual([one != other for other in rows], [at != k for at in range(len(rows))])
@@ -158,7 +160,8 @@ class Both(unittest.TestCase):
         self.assertEqual(seen, {"no end", "too many", 1, 2, 3})
 
     def test_no_end_comes_ahead_of_too_many_states(self):
-        one = Habit({**{(state, 1): (state + 1) % 3 for state in range(3)}, **{(state, 2): state for state in range(3)}}, [0])
+        circle = {(state, 1): (state + 1) % 3 for state in range(3)}
+        one = Habit({**circle, **{(state, 2): state for state in range(3)}}, [0])
         turns = {(0, 1): 0, (1, 1): 1, (0, 2): 1, (1, 2): 0}
         with self.assertRaises(TooMany):
             one & Habit(turns, [0])
@@ -179,7 +182,8 @@ class Both(unittest.TestCase):
 
 class Wrong(Refusals):
     def test_moves(self):
-        rows = [value for value in odd_values() if not isinstance(value, dict)] + [0, [], (), [((0, 1), 0)], JustOnce(2)]
+        rows = [value for value in odd_values() if not isinstance(value, dict)]
+        rows += [0, [], (), [((0, 1), 0)], JustOnce(2)]
         keys = [0, "a", None, (), (0,), (0, 1, 2), (3, 1), (-1, 1), (0, 0), (0, 12), (True, 1), (False, 1), (0, True),
                 ("0", 1), (0, "1"), (None, 1), ((0, 1),), (0, EqualToAll())]
         rows += [{(2, 2): 1, key: 0} for key in keys]
@@ -222,8 +226,9 @@ class Wrong(Refusals):
             self.assertEqual(caught.exception.position, position)
 
     def test_ways(self):
-        rows = odd_values() + [1, (), (0,), [0, 1], (1, 2), (0, 0), (0, 2, 2), (0, 2, 1), (0, 12), (0, True), (False, 1),
-                               (0, 1, "2"), (0, None), (0, [1]), (-1, 1), (0, 1, EqualToAll()), {0: 1}, ((0, 1),)]
+        rows = odd_values() + [1, (), (0,), [0, 1], (1, 2), (0, 0), (0, 2, 2), (0, 2, 1), (0, 12), (0, True),
+                               (False, 1), (0, 1, "2"), (0, None), (0, [1]), (-1, 1), (0, 1, EqualToAll()), {0: 1},
+                               ((0, 1),)]
         for way in rows:
             for habit in (Habit({}, [0]), Without(1), JustOnce(1)):
                 self.refused(InvalidWay, way, habit, way)

@@ -3,8 +3,8 @@
 import random
 import unittest
 
-from tests.samples import (chance_marks, chance_ways, large_stair, lets, plain_total, plain_ways, plain_wears, plain_worth,
-                           small_stairs, some_feet)
+from tests.samples import (chance_marks, chance_ways, large_stair, lets, plain_total, plain_ways, plain_wears,
+                           plain_worth, small_stairs, some_feet)
 from tests.test_fits import large_marks
 from wornsteps.crowds import Crowd
 from wornsteps.errors import Endless, NotBetween, NothingFits
@@ -19,7 +19,8 @@ BIG = 10 ** 28
 
 def chance_score(chance, stair, numbers):
     """A score of chance of some things."""
-    return {thing: chance.choice(numbers) for thing in chance.sample(stair.things(), chance.randint(0, len(stair.things())))}
+    things = chance.sample(stair.things(), chance.randint(0, len(stair.things())))
+    return {thing: chance.choice(numbers) for thing in things}
 
 
 def small_problems():
@@ -80,7 +81,8 @@ class Scores(unittest.TestCase):
         self.assertEqual([are_prices(marks, score, number + more, prices) for more in (-1, 0, 1)], [False, True, True])
         turned = {thing: -score[thing] for thing in score}
         self.assertEqual(least(marks, turned), -number)
-        self.assertEqual((greatest(marks, score), best_crowd(marks, score), best_prices(marks, score)), (number, crowd, prices))
+        self.assertEqual((greatest(marks, score), best_crowd(marks, score)), (number, crowd))
+        self.assertEqual(best_prices(marks, score), prices)
 
     def test_large_marks(self):
         chance = random.Random(6)
@@ -166,7 +168,8 @@ class Ranges(unittest.TestCase):
                         crowd_with(marks, thing, 1)
             else:
                 rows = {thing: [worn[thing] for _, worn in crowds] for thing in things}
-                self.assertEqual([range_of(marks, thing) for thing in things], [(min(row), max(row)) for row in rows.values()])
+                expected = [(min(row), max(row)) for row in rows.values()]
+                self.assertEqual([range_of(marks, thing) for thing in things], expected)
                 self.assertEqual(sure(marks), [thing for thing in things if min(rows[thing]) > 0])
                 self.assertEqual(idle(marks), [thing for thing in things if max(rows[thing]) == 0])
                 self.assertEqual(known(marks), [thing for thing in things if min(rows[thing]) == max(rows[thing])])
@@ -215,7 +218,8 @@ class Ranges(unittest.TestCase):
         self.assertEqual((range_of(marks, "feet"), range_of(thing=(1, 3), marks=marks)), ((3, 4), (2, 3)))
         self.assertEqual(sure(marks), ["feet", 1, 2, (0, 1), (1, 3), (2, 3)])
         self.assertEqual((idle(marks=marks), known(marks=marks)), ([], [1, 2, (0, 1), (2, 3)]))
-        self.assertEqual(crowd_with(number=4, thing="feet", marks=marks), Crowd(marks.stair, {(0, 1, 3): 3, (0, 2, 3): 1}))
+        only = Crowd(marks.stair, {(0, 1, 3): 3, (0, 2, 3): 1})
+        self.assertEqual(crowd_with(number=4, thing="feet", marks=marks), only)
         nobody = marks.with_mark(2, 0, 0).with_mark(1, 4, 4)
         self.assertEqual((range_of(nobody, (0, 2)), range_of(nobody, "feet")), ((0, 0), (4, 4)))
         self.assertEqual(range_of(Marks(marks.stair), 1), (0, None))
@@ -231,7 +235,8 @@ class Ranges(unittest.TestCase):
         for thing in large_stair().things():
             low, high = range_of(marks, thing)
             self.assertTrue(low <= worn[thing] and (high is None or worn[thing] <= high))
-            self.assertEqual(plain_wears(large_stair(), crowd_with(marks, thing, worn[thing]).ways())[thing], worn[thing])
+            crowd = crowd_with(marks, thing, worn[thing])
+            self.assertEqual(plain_wears(large_stair(), crowd.ways())[thing], worn[thing])
         self.assertEqual(range_of(marks, (0, 11)), (0, None))
 
     def test_only_crowds(self):

@@ -210,6 +210,25 @@ class Scores(Shares):
                 self.check(study, marks, score, scores)
         self.assertEqual(seen, {NothingFits, Endless, None})
 
+    def test_marks_with_lows_and_highs_alone(self):
+        chance = random.Random(41)
+        studies = [Study(three(), {"once": JustOnce(2), "plain": Without(2)}), Study(Stair.of(4, 1, 2), {"a": Without()})]
+        checked = 0
+        for _ in range(400):
+            study = chance.choice(studies)
+            marks = {}
+            for thing in chance.sample(study.things(), chance.randint(1, 5)):
+                low = chance.randint(0, 4)
+                marks[thing] = (low, low + chance.randint(0, 5))
+            score = {thing: chance.randint(-3, 3) for thing in chance.sample(study.things(), 4)}
+            try:
+                share_greatest(study, marks, score)
+            except (Endless, NothingFits):
+                continue
+            checked += 1
+            self.check(study, marks, score, plain_prices(study, score))
+        self.assertGreater(checked, 100)
+
     def check(self, study, marks, score, scores):
         top, bottom = share_greatest(study, marks, score)
         self.assertEqual((top, bottom), told_as(Fraction(top, bottom)))
@@ -262,7 +281,8 @@ class Scores(Shares):
     def test_nothing_fits_comes_ahead_of_endless(self):
         study = Study(three(), {"once": JustOnce(2), "plain": Without(2)})
         with self.assertRaises(NothingFits):
-            share_greatest(study, {"once": (2, 3), "feet": (0, None), 2: (0, 0), (0, 1): (0, 0)}, {"plain": 1, "feet": 1})
+            marks = {"once": (2, 3), "feet": (0, None), 2: (0, 0), (0, 1): (0, 0)}
+            share_greatest(study, marks, {"plain": 1, "feet": 1})
         with self.assertRaises(Endless):
             share_greatest(study, {"once": (2, 3)}, {"plain": 1})
         self.assertEqual(share_greatest(study, {"plain": (0, 3)}, {"plain": 1}), (3, 1))

@@ -139,7 +139,8 @@ class Scores(unittest.TestCase):
                 with self.assertRaises(InvalidScore) as caught:
                     score_of(stair, (0, 11), score)
                 self.assertIs(caught.exception.value, score)
-        for wrong in (True, (0, True), (False, 1), (True, 2), "foot", 11, (1, 11), Fraction(3), (0, Fraction(4)), 3 + 0j):
+        for wrong in (True, (0, True), (False, 1), (True, 2), "foot", 11, (1, 11), Fraction(3), (0, Fraction(4)),
+                      3 + 0j):
             score = {thing: 5 for thing in stair.things() if thing != wrong}
             score[wrong] = 5
             with self.assertRaises(InvalidScore):

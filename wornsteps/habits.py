@@ -226,14 +226,13 @@ class Study:
         onward = {name: many_onward(stair, habits[name].moves(), habits[name].ends()) for name in self._habits}
         if sum([onward[name].get((0, 0), 0) for name in onward]) > Study.MOST_PAIRS:
             raise TooMany("pairs", Study.MOST_PAIRS)
-        self._pairs = {}
-        for name in self._habits:
-            for way in ways_by(stair, habits[name].moves(), onward[name]):
-                self._pairs[(name, way)] = len(self._pairs)
-        self._passing = {thing: [] for thing in self.things()}
-        for pair, at in self._pairs.items():
+        pairs = [(name, way) for name in self._habits for way in ways_by(stair, habits[name].moves(), onward[name])]
+        self._pairs = {pair: at for at, pair in enumerate(pairs)}
+        passing = {thing: [] for thing in self.things()}
+        for at, pair in enumerate(pairs):
             for thing in things_of(pair):
-                self._passing[thing].append(at)
+                passing[thing].append(at)
+        self._passing = passing
 
     @property
     def stair(self):

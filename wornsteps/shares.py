@@ -122,10 +122,11 @@ class Problem:
         self.study = study
         self.marked = [thing for thing in study.things() if told.get(thing, FREE) != FREE]
         bits = pair_totals(study, {thing: 1 << r for r, thing in enumerate(self.marked)})
-        self.groups = {column: [] for column in bits}
+        groups = {column: [] for column in bits}
         for at, column in enumerate(bits):
-            self.groups[column].append(at)
-        self.table = Table(list(self.groups), [told[thing] for thing in self.marked])
+            groups[column].append(at)
+        self.groups = groups
+        self.table = Table(list(groups), [told[thing] for thing in self.marked])
 
     def settle(self):
         """Find shares that fit: None, or the dict from marked things to whole multipliers that deny it."""
