@@ -122,6 +122,44 @@ def stored(function):
     return rows
 
 
+def alike(node):
+    """The names, attributes and items that some code may give another name: what it is, or one choice in it."""
+    if isinstance(node, (ast.Name, ast.Attribute, ast.Subscript)):
+        return [base_of(node)]
+    if isinstance(node, ast.IfExp):
+        return alike(node.body) + alike(node.orelse)
+    if isinstance(node, ast.BoolOp):
+        return [word for value in node.values for word in alike(value)]
+    return []
+
+
+def second_names(function):
+    """The dict from all names of a function that stand for another one, or have others, to one for all of these."""
+    names = {}
+    for node in ast.walk(function):
+        if isinstance(node, (ast.Assign, ast.NamedExpr)):
+            targets = node.targets if isinstance(node, ast.Assign) else [node.target]
+            words = [word for target in targets for word in alike(target)] + alike(node.value)
+            # A part of an object is no second name for the whole object.
+            if alike(node.value) and not isinstance(node.value, ast.Subscript):
+                groups = [names.get(word, word) for word in words]
+                names.update({word: groups[-1] for word in [*names, *words] if names.get(word, word) in groups})
+    return names
+
+
+def walks(function):
+    """Rows of all loops and comprehensions of a function: the code, what it walks, and what it does meanwhile."""
+    rows = []
+    for node in ast.walk(function):
+        if isinstance(node, ast.For):
+            rows.append((node, node.iter, node.body))
+        if isinstance(node, (ast.ListComp, ast.SetComp, ast.DictComp, ast.GeneratorExp)):
+            rows.extend((node, part.iter, [node]) for part in node.generators)
+    # list(xs) and sorted(xs) are walked in the place of xs.
+    return [row for row in rows if not (isinstance(row[1], ast.Call) and getattr(row[1].func, "id", "") in (
+        "list", "tuple", "sorted", "range"))]
+
+
 class Operators(unittest.TestCase):
     def test_they_change_only_what_they_create_themselves(self):
         self.assertGreater(len(run_by_operators()), 30)
@@ -249,12 +287,12 @@ class Code(unittest.TestCase):
                 self.assertNotIsInstance(node.iter, (ast.Set, ast.SetComp), name)
 
     def test_what_a_loop_goes_over_is_not_changed_in_it(self):
-        for name, loop in nodes():
-            if isinstance(loop, ast.For) and isinstance(loop.iter, (ast.Name, ast.Attribute, ast.Subscript, ast.Call)):
-                over = names_in(loop.iter)
-                for part in loop.body:
-                    for target in stored(part):
-                        self.assertNotIn(base_of(target), over, (name, loop.lineno))
+        for name, _, function in functions():
+            names = second_names(function)
+            for loop, over, parts in walks(function):
+                for target in [target for part in parts for target in stored(part)]:
+                    self.assertNotIn(names.get(base_of(target), base_of(target)),
+                                     [names.get(word, word) for word in names_in(over)], (name, loop.lineno))
 
     def test_any_all_sum_and_the_like_take_lists(self):
         for name, node in nodes():

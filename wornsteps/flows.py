@@ -47,8 +47,7 @@ def take(lots, many):
 
 def lead(waiting, jump, lots):
     """Let lots make a jump, to where the list waiting keeps those that wait at its end."""
-    for way, many in lots:
-        waiting[jump[1]].append((way + (jump[1],), many))
+    waiting[jump[1]].extend([(way + (jump[1],), many) for way, many in lots])
 
 
 def begun(stair, flow):

@@ -72,17 +72,17 @@ class Network:
         room = self.room
         excess = self.excess
         link = {start: -1}
-        layer = [start]
-        while layer:
-            ahead = []
-            for node in layer:
-                for edge, front in self.edges[node]:
-                    if room[edge] and front not in link:
-                        link[front] = edge
-                        if excess[front] < 0:
-                            return front, link
-                        ahead.append(front)
-            layer = ahead
+        reached = [start]
+        at = 0
+        while at < len(reached):
+            node = reached[at]
+            at += 1
+            for edge, front in self.edges[node]:
+                if room[edge] and front not in link:
+                    link[front] = edge
+                    if excess[front] < 0:
+                        return front, link
+                    reached.append(front)
         return None, link
 
     def push(self, start, end, link):

@@ -7,6 +7,18 @@ the divisions leave no rest. Where several can be changed, the first one is, so 
 """
 
 
+def put_in(line, chosen, k, bottom):
+    """A line in which the number of column k is told by a chosen line."""
+    sign = 1 if chosen[k] > 0 else -1
+    pivot = chosen[k] * sign
+    factor = line[k] * sign
+    if factor == 0:
+        return [x * pivot // bottom for x in line]
+    fresh = [(x * pivot - factor * y) // bottom for x, y in zip(line, chosen)]
+    fresh[k] = factor
+    return fresh
+
+
 class Table:
     """Columns and rows; column k is number k, row r is number r behind the columns. It changes from step to step."""
 
@@ -29,20 +41,9 @@ class Table:
         chosen = self.lines[r]
         sign = 1 if chosen[k] > 0 else -1
         pivot = chosen[k] * sign
-        bottom = self.bottom
-        lines = []
-        for at, line in enumerate(self.lines):
-            factor = line[k] * sign
-            if at == r:
-                fresh = [-x * sign for x in line]
-                fresh[k] = bottom * sign
-            elif factor == 0:
-                fresh = [x * pivot // bottom for x in line]
-            else:
-                fresh = [(x * pivot - factor * y) // bottom for x, y in zip(line, chosen)]
-                fresh[k] = factor
-            lines.append(fresh)
-        self.lines = lines
+        begin = [-x * sign for x in chosen]
+        begin[k] = self.bottom * sign
+        self.lines = [begin if at == r else put_in(line, chosen, k, self.bottom) for at, line in enumerate(self.lines)]
         self.bottom = pivot
         came = self.leading[k]
         self.leading[k] = self.led[r]
