@@ -1,5 +1,6 @@
 """Stairs and wrong values that several tests use, and slow but plain answers to compare with."""
 
+import functools
 import itertools
 import random
 
@@ -48,23 +49,33 @@ def some_stairs():
     return rows
 
 
-def plain_ways(stair):
-    """All ways, sorted, found by trying all choices of steps."""
-    jumps = stair.jumps()
-    steps = range(1, stair.steps + 1)
+@functools.lru_cache(maxsize=None)
+def tried_ways(steps, jumps):
+    """All ways by a tuple of jumps, sorted, found by trying all choices of steps."""
     found = []
-    for many in range(stair.steps + 1):
-        for chosen in itertools.combinations(steps, many):
-            way = (0,) + chosen + (stair.steps + 1,)
+    for many in range(steps + 1):
+        for chosen in itertools.combinations(range(1, steps + 1), many):
+            way = (0,) + chosen + (steps + 1,)
             if all(jump in jumps for jump in zip(way, way[1:])):
                 found.append(way)
     return sorted(found)
 
 
+def plain_ways(stair):
+    """All ways, sorted, found by trying all choices of steps."""
+    return list(tried_ways(stair.steps, tuple(stair.jumps())))
+
+
+@functools.lru_cache(maxsize=None)
+def tried_passed(steps, jumps, way):
+    """The things that a way passes, in the order of things, each found by itself."""
+    made = [(way[k], way[k + 1]) for k in range(len(way) - 1)]
+    return ["feet"] + [step for step in range(1, steps + 1) if step in way] + [jump for jump in jumps if jump in made]
+
+
 def plain_passed(stair, way):
     """The things that a way passes, in the order of things, each found by itself."""
-    jumps = [(way[k], way[k + 1]) for k in range(len(way) - 1)]
-    return ["feet"] + [s for s in range(1, stair.steps + 1) if s in way] + [j for j in stair.jumps() if j in jumps]
+    return list(tried_passed(stair.steps, tuple(stair.jumps()), way))
 
 
 def some_scores(stair):

@@ -44,6 +44,23 @@ STAGE_4 = """
 [True, 0, True]
 """
 
+STAGE_5 = """
+>>> from wornsteps.blame import helps, least_helps, mended, moments, touched
+>>> from wornsteps.runs import along_range, is_short_paper
+>>> [along_range(marks, (0, 1, 2)), along_range(marks, (0, 1, 3)), is_short_paper(marks, (0, 1, 2, 3), 2, ("clash", {2: 1, (1, 2): -1})), is_short_paper(none, (1, 3), 2, ("high", (1, 3)))]
+[(0, 1), (2, 3), True, True]
+>>> [touched(none, {1: -1, 2: 1, (1, 3): 1}), helps(none, [("high", 2)]), least_helps(none, [("low", 1), ("low", 2), ("high", 2)]), mended(none, 1), moments(stair, [(0, 1, 3), (0, 2, 3), (0, 1, 3)], 1, (1, 1))]
+[[('low', 1), ('high', 2), ('high', (1, 3))], True, [[('low', 1)], [('high', 2)]], [[2]], [1, 2]]
+"""
+
+STAGE_6 = """
+>>> from wornsteps.beside import are_alike, bare, can_show, first_lacking, own_ways, parting
+>>> [own_ways(stair), parting(stair, (0, 1, 2, 3)), bare(stair).jumps(), can_show(stair - (0, 1), {2: 4}), can_show(stair - (0, 1), {1: 1})]
+[[(0, 1, 3), (0, 2, 3)], [(0, 1, 3), (0, 2, 3)], [(0, 1), (0, 2), (1, 3), (2, 3)], True, False]
+>>> [are_alike(stair, bare(stair)), first_lacking(stair, stair - (0, 2)), own_ways(stair - (0, 2))]
+[True, (0, 2, 3), [(0, 1, 2, 3), (0, 1, 3)]]
+"""
+
 STAGE_7 = """
 >>> from wornsteps.habits import Habit, JustOnce, Study, Without
 >>> from wornsteps.shares import fitting_shares, is_denial, share_greatest, surely_there
@@ -62,7 +79,8 @@ class Examples(unittest.TestCase):
         # An example may use what one of a stage ahead of it made.
         told = {}
         for name, text, many in (("stage 1", STAGE_1, 5), ("stage 2", STAGE_2, 7), ("stage 3", STAGE_3, 6),
-                                 ("stage 4", STAGE_4, 3), ("stage 7", STAGE_7, 7)):
+                                 ("stage 4", STAGE_4, 3), ("stage 5", STAGE_5, 4), ("stage 6", STAGE_6, 3),
+                                 ("stage 7", STAGE_7, 7)):
             example = doctest.DocTestParser().get_doctest(text, told, name, None, 0)
             self.assertEqual(len(example.examples), many, name)
             report = []

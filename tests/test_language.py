@@ -139,9 +139,10 @@ def second_names(function):
     for node in ast.walk(function):
         if isinstance(node, (ast.Assign, ast.NamedExpr)):
             targets = node.targets if isinstance(node, ast.Assign) else [node.target]
-            words = [word for target in targets for word in alike(target)] + alike(node.value)
-            # A part of an object is no second name for the whole object.
-            if alike(node.value) and not isinstance(node.value, ast.Subscript):
+            words = [word for target in targets if not isinstance(target, ast.Subscript) for word in alike(target)]
+            # A part of an object is no second name for the whole object, nor is an object for what it is put into.
+            if words and alike(node.value) and not isinstance(node.value, ast.Subscript):
+                words += alike(node.value)
                 groups = [names.get(word, word) for word in words]
                 names.update({word: groups[-1] for word in [*names, *words] if names.get(word, word) in groups})
     return names

@@ -2,8 +2,8 @@
 
 from math import gcd
 
-from wornsteps.errors import (InvalidCount, InvalidLengths, InvalidPrices, InvalidRun, InvalidScore, InvalidThing,
-                              InvalidWay, OtherStair, OtherSteps)
+from wornsteps.errors import (InvalidBounds, InvalidCount, InvalidLengths, InvalidPrices, InvalidRun, InvalidScore,
+                              InvalidThing, InvalidWay, OtherStair, OtherSteps)
 
 MOST_LENGTH = 11
 MOST_SCORE = 1000
@@ -149,6 +149,28 @@ def check_prices(stair, prices):
     """Refuse any value that is no prices of things of the stair."""
     if not are_prices_of(stair, prices):
         raise InvalidPrices(prices)
+
+
+def is_bound(stair, value):
+    """Whether any value is a bound of a thing of the stair."""
+    if not isinstance(value, tuple) or len(value) != 2:
+        return False
+    side, thing = value
+    return isinstance(side, str) and side in ("low", "high") and thing in stair
+
+
+def wrong_bound(stair, value):
+    """The position of the first element of a list that is no bound, or stands ahead; None if there is none."""
+    return first_wrong(value, [is_bound(stair, bound) for bound in value])
+
+
+def check_bounds(stair, bounds):
+    """Refuse any value that is no list of bounds of things of the stair, each once."""
+    if not is_list(bounds):
+        raise InvalidBounds(None)
+    wrong = wrong_bound(stair, bounds)
+    if wrong is not None:
+        raise InvalidBounds(wrong)
 
 
 def check_same_stair(one, other):

@@ -37,25 +37,48 @@ def crowd_of(stair, network):
     return Crowd(stair, ways_of_flow(stair, network.flow()))
 
 
+def clash_by(stair, told):
+    """A plain clash by a dict from things to marks; None if some crowd fits."""
+    network = Network(stair, told, told)
+    stuck = network.settle()
+    return None if stuck is None else in_order(stair, network.crossing(stuck))
+
+
+def does_fit_by(stair, told):
+    """Whether some crowd fits a dict from things to marks."""
+    return Network(stair, told, told).settle() is None
+
+
+def fitting_by(stair, told):
+    """A Crowd that fits a dict from things to marks; None if there is none."""
+    network = Network(stair, told, told)
+    return crowd_of(stair, network) if network.settle() is None else None
+
+
+def is_clash_by(stair, told, value):
+    """Whether any value is a clash by a dict from things to marks."""
+    if not are_prices_of(stair, value):
+        return False
+    total = worth_of(told, value)
+    if total is None or total >= 0:
+        return False
+    dearest = greatest_total(stair, turned(value))
+    return dearest is None or dearest <= 0
+
+
 def does_fit(marks):
     """Whether some crowd fits the marks."""
-    told = marks.told()
-    return Network(marks.stair, told, told).settle() is None
+    return does_fit_by(marks.stair, marks.told())
 
 
 def fitting(marks):
     """A Crowd that fits the marks; None if there is none."""
-    told = marks.told()
-    network = Network(marks.stair, told, told)
-    return crowd_of(marks.stair, network) if network.settle() is None else None
+    return fitting_by(marks.stair, marks.told())
 
 
 def plain_clash(marks):
     """A clash with no other prices than 1 and -1; None if some crowd fits."""
-    told = marks.told()
-    network = Network(marks.stair, told, told)
-    stuck = network.settle()
-    return None if stuck is None else in_order(marks.stair, network.crossing(stuck))
+    return clash_by(marks.stair, marks.told())
 
 
 def clash(marks):
@@ -65,10 +88,4 @@ def clash(marks):
 
 def is_clash(marks, value):
     """Whether any value is a clash by the marks."""
-    if not are_prices_of(marks.stair, value):
-        return False
-    total = worth_of(marks.told(), value)
-    if total is None or total >= 0:
-        return False
-    dearest = greatest_total(marks.stair, turned(value))
-    return dearest is None or dearest <= 0
+    return is_clash_by(marks.stair, marks.told(), value)

@@ -34,6 +34,13 @@ def finite_total(told):
     return sum([low + (0 if high is None else high) for low, high in told.values()])
 
 
+def lower(height, best, limit):
+    """Change the heights so that all within a limit lies on the way down; best tells how far each node is."""
+    for node in best:
+        if best[node] < limit:
+            height[node] += best[node] - limit
+
+
 class Network:
     """What goes along each arc; it begins with what each has to hold, and so with too many or few feet at nodes."""
 
@@ -46,8 +53,9 @@ class Network:
         self.excess = [0] * nodes
         self.bounds = [told.get(arc[0], FREE) for arc in arcs]
         self.total = finite_total(told)
-        # More than this is never needed, nor can be held back by what is finite: it stands for endless.
-        self.endless = 2 * self.total + 1
+        # More than this is never needed, nor can be held back by what is finite: it stands for endless. There is room
+        # for lows of all jumps of a run that are raised, each to no more than the total.
+        self.endless = 16 * self.total + 16
         for k, (thing, tail, front) in enumerate(arcs):
             self.set_arc(k, tail, front, self.bounds[k])
 
@@ -62,6 +70,19 @@ class Network:
             self.edges[front].append((2 * arc + 1, tail))
         self.excess[front] += low
         self.excess[tail] -= low
+
+    def raise_low(self, arc, least):
+        """Let an arc hold at least so many, which it lets: what it lacks is too many at its front."""
+        low, high = self.bounds[arc]
+        if least <= low:
+            return
+        lacking = least - low - self.room[2 * arc + 1]
+        self.bounds[arc] = (least, high)
+        self.room[2 * arc + 1] = max(0, -lacking)
+        if lacking > 0:
+            self.room[2 * arc] -= lacking
+            self.excess[self.fronts[2 * arc]] += lacking
+            self.excess[self.fronts[2 * arc + 1]] -= lacking
 
     def through(self, arc):
         """How many feet go along an arc."""
@@ -210,8 +231,8 @@ class Network:
                 self.excess[front] += many
                 self.excess[tail] -= many
 
-    def search_cheap(self, start, costs, height):
-        """As search, at the least cost; the heights are changed so that all that is come to lies on the way down."""
+    def nearest(self, start, costs, height):
+        """As search, at the least cost: the node, or None, the dict of how far each node is, and how it was come to."""
         room = self.room
         link = {}
         near = {start: 0}
@@ -224,9 +245,7 @@ class Network:
             best[node] = cost
             link[node] = edge
             if self.excess[node] < 0:
-                for other in best:
-                    height[other] += best[other] - cost
-                return node, link
+                return node, best, link
             base = cost + height[node]
             for edge, front in self.edges[node]:
                 if room[edge] and front not in best:
@@ -234,7 +253,7 @@ class Network:
                     if front not in near or further < near[front]:
                         near[front] = further
                         heappush(queue, (further, front, edge))
-        return None, link
+        return None, best, link
 
     def settle_cheap(self, costs):
         """As settle, at the least cost for each edge; the heights at the end, or None if some nodes hold too many."""
@@ -242,9 +261,10 @@ class Network:
         self.fill(costs, height)
         for node in range(len(self.edges)):
             while self.excess[node] > 0:
-                end, link = self.search_cheap(node, costs, height)
+                end, best, link = self.nearest(node, costs, height)
                 if end is None:
                     return None
+                lower(height, best, best[end])
                 self.push(node, end, link)
         return height
 

@@ -37,6 +37,11 @@ def open_jumps(marks):
 def free_way(marks, score):
     """The first way that is free for the score; None if none is."""
     check_score(marks.stair, score)
+    return first_free(marks, score)
+
+
+def first_free(marks, score):
+    """The first way that is free for a score of things of the stair; None if none is."""
     if marks["feet"][1] is not None:
         return None
     jumps = open_jumps(marks)
@@ -56,28 +61,46 @@ def free_way(marks, score):
     return tuple(way)
 
 
+def costs_of(network, score):
+    """The list of what each edge of a network costs, so that the greatest score is the least cost."""
+    costs = []
+    for thing in network.labels:
+        costs.append(-score.get(thing, 0))
+        costs.append(score.get(thing, 0))
+    return costs
+
+
+def led_best(stair, told, score):
+    """A network in which feet are led as marks tell, at the greatest score, and the heights; None if nothing fits.
+
+    No way is free for the score.
+    """
+    network = Network(stair, told, {**told, **score})
+    height = network.settle_cheap(costs_of(network, score))
+    return None if height is None else (network, height)
+
+
 def settled_best(marks, score):
     """A network in which feet are led as the marks let, at the greatest score, and the heights of its nodes."""
     if free_way(marks, score) is not None:
         if does_fit(marks):
             raise Endless()
         raise NothingFits()
-    told = marks.told()
-    network = Network(marks.stair, told, {**told, **score})
-    costs = []
-    for thing in network.labels:
-        costs.append(-score.get(thing, 0))
-        costs.append(score.get(thing, 0))
-    height = network.settle_cheap(costs)
-    if height is None:
+    found = led_best(marks.stair, marks.told(), score)
+    if found is None:
         raise NothingFits()
-    return network, height
+    return found
+
+
+def score_in(network, score):
+    """The score of the crowds of what goes along the arcs of a network."""
+    return sum([score[thing] * network.through(arc) for arc, thing in enumerate(network.labels) if thing in score])
 
 
 def greatest(marks, score):
     """The greatest score of the crowds that fit."""
     network, _ = settled_best(marks, score)
-    return sum([score[thing] * network.through(arc) for arc, thing in enumerate(network.labels) if thing in score])
+    return score_in(network, score)
 
 
 def least(marks, score):
