@@ -73,6 +73,27 @@ STAGE_7 = """
 [4, ['once'], True, None]
 """
 
+STAGE_8 = """
+>>> from wornsteps.measuring import are_width_prices, best_measure, width
+>>> from wornsteps.narrowing import narrower
+>>> [width(marks, {"feet": 1}, 1), width(marks, {"feet": 1}, (0, 2)), best_measure(marks, {"feet": 1})]
+[1, 0, ('feet', 0)]
+>>> [narrower(marks)[(1, 2)], are_width_prices(marks, {"feet": 1}, (0, 2), 0, ({1: 1, (0, 2): 1}, {1: -1, (0, 2): -1}))]
+[(0, 1), True]
+"""
+
+STAGE_9 = """
+>>> from wornsteps.desk import Desk, tried
+>>> from wornsteps.texts import text_of
+>>> text_of(marks)
+'marks 2\\njump 0 1\\njump 0 2\\njump 1 2\\njump 1 3\\njump 2 3\\nstep 1 3 3\\nstep 2 1 1\\n'
+>>> desk = Desk(marks)
+>>> [desk.do("range feet"), desk.do_all("stride 1 3 0 1", "fits"), desk.do("ease high step 2"), desk.do("range step 2"), len(desk)]
+['3 4', ['done', 'no'], 'done', '2 -', 2]
+>>> [tried(desk, lambda held: held.do("measure step 2 3")), desk[2], desk.undo(), desk.do("fits")]
+['done', (1, None), None, 'no']
+"""
+
 
 class Examples(unittest.TestCase):
     def test_each_example_gives_what_stands_below_it(self):
@@ -80,7 +101,7 @@ class Examples(unittest.TestCase):
         told = {}
         for name, text, many in (("stage 1", STAGE_1, 5), ("stage 2", STAGE_2, 7), ("stage 3", STAGE_3, 6),
                                  ("stage 4", STAGE_4, 3), ("stage 5", STAGE_5, 4), ("stage 6", STAGE_6, 3),
-                                 ("stage 7", STAGE_7, 7)):
+                                 ("stage 7", STAGE_7, 7), ("stage 8", STAGE_8, 4), ("stage 9", STAGE_9, 6)):
             example = doctest.DocTestParser().get_doctest(text, told, name, None, 0)
             self.assertEqual(len(example.examples), many, name)
             report = []

@@ -171,12 +171,11 @@ class Operators(unittest.TestCase):
                 else:
                     self.assertIn(ast.unparse(target.value), own_lists(function), (name, function.name))
 
-    def test_they_add_only_literal_numbers_in_place(self):
+    def test_they_add_nothing_in_place(self):
+        # A desk has += and -= of its own, so that these signs may change what is not looked for here.
         for name, _, function in run_by_operators():
             for node in ast.walk(function):
-                if isinstance(node, ast.AugAssign):
-                    plain = isinstance(node.target, ast.Name) and isinstance(node.value, ast.Constant)
-                    self.assertTrue(plain, (name, function.name))
+                self.assertNotIsInstance(node, ast.AugAssign, (name, function.name))
 
     def test_they_call_no_object_and_no_parameter(self):
         known = {function.name for _, _, function in functions()} | set(BUILTINS)

@@ -40,7 +40,8 @@ def is_endless(marks, score, thing):
     rows = [(thing in plain_passed(marks.stair, way), plain_total(marks.stair, score, way))
             for way in plain_ways(marks.stair)
             if all(marks[passed][1] is None for passed in plain_passed(marks.stair, way))]
-    return any(number for passes, number in rows if not passes) or len({number for passes, number in rows if passes}) > 1
+    through = {number for passes, number in rows if passes}
+    return any(number for passes, number in rows if not passes) or len(through) > 1
 
 
 class Widths(unittest.TestCase):
@@ -217,7 +218,8 @@ class JointWorth(unittest.TestCase):
             things = marks.stair.things()
             for _ in range(6):
                 thing = chance.choice(things)
-                upper, lower = ({key: chance.choice([-3, -1, 1, 2]) for key in chance.sample(things, min(4, len(things)))}
+                few = min(4, len(things))
+                upper, lower = ({key: chance.choice([-3, -1, 1, 2]) for key in chance.sample(things, few)}
                                 for _ in range(2))
                 if chance.random() < 0.5:
                     upper[thing], lower[thing] = 2, chance.choice([-5, -2, 1])

@@ -130,8 +130,8 @@ class Large(unittest.TestCase):
         seen = []
         for marks in large_marks():
             ways = plain_ways(marks.stair)
-            runs = {way[i:j] for way in chance.sample(ways, min(3, len(ways))) for i in [chance.randint(0, len(way) - 2)]
-                    for j in [chance.randint(i + 2, len(way)), len(way)]}
+            begun = [(way, chance.randint(0, len(way) - 2)) for way in chance.sample(ways, min(3, len(ways)))]
+            runs = {way[i:j] for way, i in begun for j in [chance.randint(i + 2, len(way)), len(way)]}
             for run in sorted(runs | set(ways[:1])):
                 if does_fit(marks):
                     seen.append(self.check(marks, run))

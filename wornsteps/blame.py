@@ -121,7 +121,7 @@ def sure_blamed(marks, candidates):
 def sets_of(steps, most):
     """The sorted list of the sorted lists of at most so many of some steps, which are sorted."""
     rows = [[]]
-    for step in reversed(steps):
+    for step in steps[::-1]:
         rows = [[]] + [[step] + row for row in rows if len(row) < most] + rows[1:]
     return rows
 

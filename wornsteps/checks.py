@@ -164,6 +164,11 @@ def wrong_bound(stair, value):
     return first_wrong(value, [is_bound(stair, bound) for bound in value])
 
 
+def are_bounds(stair, value):
+    """Whether any value is a list of bounds of things of the stair, each once."""
+    return is_list(value) and wrong_bound(stair, value) is None
+
+
 def check_bounds(stair, bounds):
     """Refuse any value that is no list of bounds of things of the stair, each once."""
     if not is_list(bounds):

@@ -109,7 +109,7 @@ class Habit:
                         numbers[pair] = len(pairs)
                         pairs.append(pair)
                     moves[(state, length)] = numbers[pair]
-            state += 1
+            state = state + 1
         ends = [numbers[pair] for pair in pairs if pair[0] in self._ends and pair[1] in other._ends]
         if len(ends) == 0:
             raise InvalidEnds(None)

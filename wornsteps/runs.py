@@ -3,7 +3,7 @@
 from wornsteps.checks import FREE, check_count, check_run, is_jump
 from wornsteps.crowds import Crowd
 from wornsteps.errors import NotBetween
-from wornsteps.fits import clash_by, is_clash_by
+from wornsteps.fits import clash_by, does_fit_by, is_clash_by
 from wornsteps.flows import kept_along, least_of, run_rows, ways_along
 from wornsteps.network import Network
 from wornsteps.scores import first_free, led_best, settled
@@ -107,14 +107,14 @@ def along_range(marks, run):
 
 
 def spread(marks, told, flow, run, many):
-    """A flow by marks with raised lows in which at most so many feet have to go along a run; None if there is none."""
+    """A flow by raised lows, from one of them, in which at most so many feet have to go along a run; or None."""
     over = forced(flow, run) - many
     if over <= 0:
         return flow
     score = along_score(run)
     way = first_free(marks, score)
     if way is None:
-        network, _ = led_best(marks.stair, told, score)
+        network, _ = led_best(marks.stair, raised(told, run, many), score)
         least = network.flow()
         return least if forced(least, run) <= many else None
     # As many feet more on the free way as take the number down to many, or below.
@@ -124,28 +124,47 @@ def spread(marks, told, flow, run, many):
     return flow
 
 
-def flow_on(marks, run, many):
-    """The flow of a crowd that fits, in which so many feet can go along a run; None if there is none."""
-    told = marks.told()
+def raised_flow(marks, told, run, many):
+    """The flow of a crowd that fits where the lows of a run are raised to a number; None if there is none."""
     if narrow_jump(told, run, many) is not None:
         return None
     more = raised(told, run, many)
     network = Network(marks.stair, more, more)
-    if network.settle() is not None:
+    return network.flow() if network.settle() is None else None
+
+
+def crowd_of_run(stair, flow, run, many):
+    """A Crowd with a flow, in which just so many feet go along a run, which the flow lets."""
+    jumps, worn = run_rows(flow, run)
+    return Crowd(stair, ways_along(stair, flow, run, kept_along(jumps, worn, many)))
+
+
+def crowd_reaching(marks, run, many):
+    """A Crowd that fits, in which at least so many feet go along a run; None if there is none."""
+    flow = raised_flow(marks, marks.told(), run, many)
+    if flow is None:
         return None
-    return spread(marks, more, network.flow(), run, many)
+    return crowd_of_run(marks.stair, flow, run, min([flow[jump] for jump in zip(run, run[1:])]))
+
+
+def can_reach(marks, run, many):
+    """Whether in some crowd that fits at least so many feet go along a run."""
+    told = marks.told()
+    return narrow_jump(told, run, many) is None and does_fit_by(marks.stair, raised(told, run, many))
 
 
 def crowd_on(marks, run, many):
     """A Crowd that fits, in which just so many feet go along the run."""
     check_run(marks.stair, run)
     check_count(many)
-    flow = flow_on(marks, run, many)
+    told = marks.told()
+    flow = raised_flow(marks, told, run, many)
+    if flow is not None:
+        flow = spread(marks, told, flow, run, many)
     if flow is None:
         least, greatest = along_range(marks, run)
         raise NotBetween(least, greatest)
-    jumps, worn = run_rows(flow, run)
-    return Crowd(marks.stair, ways_along(marks.stair, flow, run, kept_along(jumps, worn, many)))
+    return crowd_of_run(marks.stair, flow, run, many)
 
 
 def short_paper(marks, run, many):
