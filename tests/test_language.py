@@ -299,6 +299,35 @@ class Code(unittest.TestCase):
             if isinstance(node, ast.Call) and getattr(node.func, "id", "") in "any all min max sum sorted".split():
                 self.assertNotIsInstance(node.args[0], ast.GeneratorExp, (name, node.lineno))
 
+    def test_reversed_takes_what_is_plainly_a_list(self):
+        for name, node in nodes():
+            if isinstance(node, ast.Call) and getattr(node.func, "id", "") == "reversed":
+                inner = getattr(getattr(node.args[0], "func", None), "id", "")
+                self.assertIn(inner, ("list", "tuple", "sorted", "range"), (name, node.lineno))
+
+    def test_texts_of_objects_are_plain_strings(self):
+        for name, _, function in functions():
+            if function.name in ("__repr__", "__str__"):
+                self.assertIsInstance(function.body[-1], ast.Return, name)
+                self.assertIsInstance(function.body[-1].value, (ast.JoinedStr, ast.Constant), name)
+
+    def test_what_leaves_a_block_only_puts_back_what_was_kept(self):
+        seen = [function for _, _, function in functions() if function.name == "__exit__"]
+        self.assertTrue(seen)
+        for function in seen:
+            for row in function.body:
+                self.assertIsInstance(row, ast.Assign)
+                self.assertIsInstance(row.targets[0], ast.Attribute)
+                self.assertIsInstance(row.value, ast.Attribute)
+
+    def test_functions_of_tables_are_given_a_name_ahead_of_the_call(self):
+        for name, node in nodes():
+            if isinstance(node, ast.Call):
+                self.assertNotIsInstance(node.func, ast.Subscript, (name, node.lineno))
+                for part in node.args:
+                    if isinstance(part, ast.Starred):
+                        self.assertIsInstance(part.value, ast.Name, (name, node.lineno))
+
     def test_each_function_and_class_is_told_in_words_unless_it_is_one_of_python_itself(self):
         for name, node in nodes():
             if isinstance(node, (ast.FunctionDef, ast.ClassDef)) and not re.match("__", node.name):

@@ -7,7 +7,7 @@ If one leads to the head from a place that is loose, ahead of the last step, and
 Here some places together are told by the bits of a number.
 """
 
-from wornsteps.checks import check_same_steps, check_way, is_count, is_list, is_step, is_way
+from wornsteps.checks import Ready, check_same_steps, check_way, is_count, is_list, is_step, is_way
 from wornsteps.errors import InvalidCount
 from wornsteps.fits import does_fit_by, fitting_by
 from wornsteps.stairs import Stair
@@ -248,4 +248,4 @@ def first_apart(one, other):
 
 def bare(stair):
     """The bare Stair, which shows the same with the fewest jumps."""
-    return Stair(stair.steps, Onward(stair).jumps_made())
+    return Stair(stair.steps, Ready(Onward(stair).jumps_made()))

@@ -3,7 +3,7 @@
 from wornsteps.checks import FREE, check_bounds, check_count, check_prices, is_list, is_mark, is_step, is_way
 from wornsteps.errors import InvalidMark, InvalidPrices, InvalidThing, InvalidWays, TooMany
 from wornsteps.fits import clash_by, does_fit_by, is_clash_by
-from wornsteps.marks import Marks
+from wornsteps.marks import right_marks
 
 MOST_CANDIDATES = 10
 
@@ -27,7 +27,7 @@ def is_touched(prices, bound):
 def eased(marks, bounds):
     """The Marks in which the bounds are given up."""
     check_bounds(marks.stair, bounds)
-    return Marks(marks.stair, eased_told(marks.told(), bounds))
+    return right_marks(marks.stair, eased_told(marks.told(), bounds))
 
 
 def helps(marks, bounds):

@@ -10,6 +10,13 @@ MOST_SCORE = 1000
 FREE = (0, None)
 
 
+class Ready:
+    """What this package made itself, so that the object which it becomes a part of need not check it once more."""
+
+    def __init__(self, part):
+        self.part = part
+
+
 def is_number(value):
     """Whether any value is an INTEGER: True and False are none."""
     return isinstance(value, int) and not isinstance(value, bool)

@@ -6,10 +6,10 @@ true, a paper of it, or None, and whether any value is a paper of it.
 
 from wornsteps.beside import are_alike, first_apart, is_own, own_ways
 from wornsteps.blame import clash_beside, eased, eased_told, helps, touched
-from wornsteps.checks import are_bounds, is_count, is_list, is_number, is_score, is_way
+from wornsteps.checks import Ready, are_bounds, is_count, is_list, is_number, is_score, is_way
 from wornsteps.crowds import Crowd
 from wornsteps.errors import InvalidClaim
-from wornsteps.fits import clash, crowd_of, does_fit, fitting, fitting_by, in_order, is_clash
+from wornsteps.fits import clash, crowd_of, does_fit, fitting, fitting_by, is_clash
 from wornsteps.marks import Marks
 from wornsteps.runs import can_reach, crowd_reaching, is_short_paper, short_paper
 from wornsteps.scores import are_prices, first_free, led_best, score_in
@@ -109,7 +109,7 @@ def crowd_at(marks, score, number):
     if lacking <= 0:
         return crowd
     # As many feet more on the free way as make up for what lacks.
-    return crowd + Crowd(marks.stair, {way: -(-lacking // total_on(way, score))})
+    return crowd + Crowd(marks.stair, Ready({way: -(-lacking // total_on(way, score))}))
 
 
 def is_crowd_at(marks, score, number, value):
@@ -136,7 +136,7 @@ def stay_paper(marks, score, number):
     if found is None:
         return None
     network, height = found
-    return crowd_of(marks.stair, network), in_order(marks.stair, network.prices(score, height))
+    return crowd_of(marks.stair, network), marks.stair.in_order(network.prices(score, height))
 
 
 def is_stay_paper(marks, score, number, value):

@@ -1,6 +1,7 @@
 """Crowds: how many feet go which way, how often they wear each thing, and exchanges between ways."""
 
-from wornsteps.checks import check_run, check_same_stair, check_thing, check_way, is_count, is_number, is_step, is_way
+from wornsteps.checks import (Ready, check_run, check_same_stair, check_thing, check_way, is_count, is_number, is_step,
+                              is_way)
 from wornsteps.errors import (InvalidCount, InvalidThing, InvalidWay, InvalidWays, NotBetween, NotTogether, TooMany,
                               UnknownWay)
 
@@ -66,9 +67,13 @@ class Crowd:
     MOST_WAYS = 60
 
     def __init__(self, stair, ways=None):
-        table = {} if ways is None else ways
-        if not are_ways(stair, table):
-            raise InvalidWays(ways)
+        table = {}
+        if isinstance(ways, Ready):
+            table = ways.part
+        elif ways is not None:
+            if not are_ways(stair, ways):
+                raise InvalidWays(ways)
+            table = ways
         if len(table) > Crowd.MOST_WAYS:
             raise TooMany("ways", Crowd.MOST_WAYS)
         self._stair = stair
@@ -80,7 +85,7 @@ class Crowd:
         """The crowd in which each way is gone as often as it stands here."""
         for way in ways:
             check_way(stair, way)
-        return Crowd(stair, changed({}, [(way, 1) for way in ways]))
+        return Crowd(stair, Ready(changed({}, [(way, 1) for way in ways])))
 
     @property
     def stair(self):
@@ -146,7 +151,7 @@ class Crowd:
         greatest = most_exchanged(self._ways, one, other)
         if many > greatest:
             raise NotBetween(1, greatest)
-        return Crowd(self._stair, changed(self._ways, exchange_rows(one, other, step, many)))
+        return Crowd(self._stair, Ready(changed(self._ways, exchange_rows(one, other, step, many))))
 
     def __len__(self):
         return len(self._ways)
@@ -164,21 +169,21 @@ class Crowd:
     def __add__(self, other):
         if isinstance(other, Crowd):
             check_same_stair(self._stair, other._stair)
-            return Crowd(self._stair, changed(self._ways, list(other._ways.items())))
+            return Crowd(self._stair, Ready(changed(self._ways, list(other._ways.items()))))
         check_way(self._stair, other)
-        return Crowd(self._stair, changed(self._ways, [(other, 1)]))
+        return Crowd(self._stair, Ready(changed(self._ways, [(other, 1)])))
 
     def __sub__(self, other):
         if not is_way(self._stair, other) or other not in self._ways:
             raise UnknownWay(other)
-        return Crowd(self._stair, changed(self._ways, [(other, -1)]))
+        return Crowd(self._stair, Ready(changed(self._ways, [(other, -1)])))
 
     def __mul__(self, other):
         if not is_count(other):
             raise InvalidCount(other)
         if other == 0:
             return Crowd(self._stair)
-        return Crowd(self._stair, {way: self._ways[way] * other for way in self._ways})
+        return Crowd(self._stair, Ready({way: self._ways[way] * other for way in self._ways}))
 
     def __rmul__(self, other):
         return self * other

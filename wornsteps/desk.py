@@ -5,7 +5,7 @@ from wornsteps.checks import check_same_stair, check_thing, is_bound, is_mark
 from wornsteps.errors import (CommandFailed, InvalidBounds, InvalidCommand, InvalidMark, LimitError, MissingError,
                               NothingToUndo, StairError, StateError)
 from wornsteps.fits import does_fit
-from wornsteps.marks import Marks
+from wornsteps.marks import right_marks
 from wornsteps.measuring import measured
 from wornsteps.runs import along_range
 from wornsteps.scores import range_of
@@ -177,7 +177,7 @@ class Desk:
         told = {}
         for thing, (low, high) in marks.told().items():
             told[thing] = (low + worn[thing], None if high is None else high + worn[thing])
-        self.put(Marks(marks.stair, told))
+        self.put(right_marks(marks.stair, told))
         return self
 
     def __isub__(self, other):

@@ -1,6 +1,6 @@
 """Crowds that fit marks, and clashes: prices that show that none does."""
 
-from wornsteps.checks import are_prices_of, check_prices, check_way
+from wornsteps.checks import Ready, are_prices_of, check_prices, check_way
 from wornsteps.crowds import Crowd
 from wornsteps.flows import ways_of_flow
 from wornsteps.marks import worth_of
@@ -27,21 +27,16 @@ def worth(marks, prices):
     return worth_of(marks.told(), prices)
 
 
-def in_order(stair, table):
-    """The dict with the things in order."""
-    return {thing: table[thing] for thing in stair.things() if thing in table}
-
-
 def crowd_of(stair, network):
     """The Crowd of what goes along the arcs of a network in which no node has too many or few."""
-    return Crowd(stair, ways_of_flow(stair, network.flow()))
+    return Crowd(stair, Ready(ways_of_flow(stair, network.flow())))
 
 
 def clash_by(stair, told):
     """A plain clash by a dict from things to marks; None if some crowd fits."""
     network = Network(stair, told, told)
     stuck = network.settle()
-    return None if stuck is None else in_order(stair, network.crossing(stuck))
+    return None if stuck is None else stair.in_order(network.crossing(stuck))
 
 
 def does_fit_by(stair, told):

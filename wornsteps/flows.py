@@ -1,6 +1,6 @@
 """Flows: how many feet make each jump, crowds that have a flow, and exchanges between crowds of one flow."""
 
-from wornsteps.checks import check_count, check_run, check_same_stair, is_count, is_list, is_step
+from wornsteps.checks import Ready, check_count, check_run, check_same_stair, is_count, is_list, is_step
 from wornsteps.crowds import Crowd, exchange_rows, most_exchanged
 from wornsteps.errors import InvalidFlow, NotBetween, TooMany
 
@@ -72,7 +72,7 @@ def ways_of_flow(stair, flow):
 def split(stair, flow):
     """A crowd with the flow and at most as many ways as the flow has jumps that are not 0."""
     check_flow(stair, flow)
-    return Crowd(stair, ways_of_flow(stair, flow))
+    return Crowd(stair, Ready(ways_of_flow(stair, flow)))
 
 
 def run_rows(flow, run):
@@ -147,7 +147,7 @@ def crowd_along(stair, flow, run, many):
     least = least_of(jumps, worn)
     if not least <= many <= min(jumps):
         raise NotBetween(least, min(jumps))
-    return Crowd(stair, ways_along(stair, flow, run, kept_along(jumps, worn, many)))
+    return Crowd(stair, Ready(ways_along(stair, flow, run, kept_along(jumps, worn, many))))
 
 
 def add_rows(table, rows):

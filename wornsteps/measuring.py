@@ -2,7 +2,7 @@
 
 from wornsteps.checks import are_prices_of, check_count, check_prices, check_score, check_thing
 from wornsteps.errors import Endless, NotBetween, NothingFits
-from wornsteps.fits import crowd_of, does_fit, does_fit_by, in_order
+from wornsteps.fits import crowd_of, does_fit, does_fit_by
 from wornsteps.marks import worth_of
 from wornsteps.scores import difference, first_free, led_best, open_jumps, range_of, score_in
 from wornsteps.sides import Side, meet
@@ -126,7 +126,7 @@ def prices_of(side, stair, score, arc):
     prices = network.prices(score, side.height)
     thing = network.labels[arc]
     price = score.get(thing, 0) + side.height[network.fronts[2 * arc]] - side.height[network.fronts[2 * arc + 1]]
-    return in_order(stair, {key: number for key, number in {**prices, thing: price}.items() if number != 0})
+    return stair.in_order({key: number for key, number in {**prices, thing: price}.items() if number != 0})
 
 
 def width_prices(marks, score, thing):

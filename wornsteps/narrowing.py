@@ -2,7 +2,7 @@
 
 from wornsteps.checks import FREE, check_count, check_thing, is_within
 from wornsteps.errors import NotBetween, NothingFits
-from wornsteps.marks import Marks
+from wornsteps.marks import right_marks
 from wornsteps.network import Network
 from wornsteps.scores import range_of, settled_whole
 
@@ -10,7 +10,7 @@ from wornsteps.scores import range_of, settled_whole
 def narrower(marks):
     """The Marks with the least and the greatest wear of each thing as its mark, which fit the same crowds."""
     network, arcs = settled_whole(marks)
-    return Marks(marks.stair, {thing: network.range_at(arc) for thing, arc in arcs.items()})
+    return right_marks(marks.stair, {thing: network.range_at(arc) for thing, arc in arcs.items()})
 
 
 def is_tight(marks):

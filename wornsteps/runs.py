@@ -1,6 +1,6 @@
 """Feet along a run in all crowds that fit, and short papers, which show that in none so many go along."""
 
-from wornsteps.checks import FREE, check_count, check_run, is_jump
+from wornsteps.checks import FREE, Ready, check_count, check_run, is_jump
 from wornsteps.crowds import Crowd
 from wornsteps.errors import NotBetween
 from wornsteps.fits import clash_by, does_fit_by, is_clash_by
@@ -136,7 +136,7 @@ def raised_flow(marks, told, run, many):
 def crowd_of_run(stair, flow, run, many):
     """A Crowd with a flow, in which just so many feet go along a run, which the flow lets."""
     jumps, worn = run_rows(flow, run)
-    return Crowd(stair, ways_along(stair, flow, run, kept_along(jumps, worn, many)))
+    return Crowd(stair, Ready(ways_along(stair, flow, run, kept_along(jumps, worn, many))))
 
 
 def crowd_reaching(marks, run, many):

@@ -1,9 +1,9 @@
 """Scores of the crowds that fit marks: the greatest and the least one, and what holds in all of them."""
 
-from wornsteps.checks import are_prices_of, check_count, check_score, check_thing, is_number
+from wornsteps.checks import Ready, are_prices_of, check_count, check_score, check_thing, is_number
 from wornsteps.crowds import Crowd
 from wornsteps.errors import Endless, InvalidCount, NotBetween, NothingFits
-from wornsteps.fits import crowd_of, does_fit, in_order
+from wornsteps.fits import crowd_of, does_fit
 from wornsteps.flows import ways_of_flow
 from wornsteps.marks import worth_of
 from wornsteps.network import Network
@@ -23,7 +23,7 @@ def settled_whole(marks):
     """A network as settled, with an arc of each thing, and the dict from all things, in order, to their arcs."""
     network = settled(marks, {step: True for step in range(1, marks.stair.head)})
     arcs = {thing: arc for arc, thing in enumerate(network.labels)}
-    return network, in_order(marks.stair, arcs)
+    return network, marks.stair.in_order(arcs)
 
 
 def open_jumps(marks):
@@ -118,7 +118,7 @@ def best_crowd(marks, score):
 def best_prices(marks, score):
     """Prices such that no way has a score above its price, and whose worth is the greatest score."""
     network, height = settled_best(marks, score)
-    return in_order(marks.stair, network.prices(score, height))
+    return marks.stair.in_order(network.prices(score, height))
 
 
 def are_prices(marks, score, most, value):
@@ -204,4 +204,4 @@ def only_crowd(marks):
         # Two of these ways are unlike both ahead of the step and behind it exactly if some are at either side.
         if len({way[:at] for way, at in rows}) > 1 and len({way[at:] for way, at in rows}) > 1:
             return None
-    return Crowd(marks.stair, ways)
+    return Crowd(marks.stair, Ready(ways))

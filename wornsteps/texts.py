@@ -1,9 +1,9 @@
 """Texts of stairs, crowds and marks, and how they are read."""
 
-from wornsteps.checks import FREE, is_jump, is_way
+from wornsteps.checks import FREE, Ready, is_jump, is_way
 from wornsteps.crowds import Crowd
 from wornsteps.errors import InvalidText
-from wornsteps.marks import Marks
+from wornsteps.marks import right_marks
 from wornsteps.stairs import Stair
 from wornsteps.words import count_in, counts_in, mark_in, thing_in, told_number, told_thing
 
@@ -79,7 +79,7 @@ def take_stair(page, word):
         jump = counts_in(page.words()[1:])
         page.check(is_jump(steps, jump) and len(jumps) < Stair.MOST_JUMPS and (not jumps or jumps[-1] < jump))
         jumps.append(jump)
-    return Stair(steps, jumps)
+    return Stair(steps, Ready(jumps))
 
 
 def read_stair(text):
@@ -103,7 +103,7 @@ def read_crowd(text):
         ways[way] = counts[0]
         last = way
     page.close()
-    return Crowd(stair, ways)
+    return Crowd(stair, Ready(ways))
 
 
 def read_marks(text):
@@ -120,4 +120,4 @@ def read_marks(text):
         told[thing] = mark
         last = places[thing]
     page.close()
-    return Marks(stair, told)
+    return right_marks(stair, told)
