@@ -214,6 +214,29 @@ class Beside(unittest.TestCase):
                 seen.add((not lacking, not apart, first == second))
         self.assertEqual(len(seen), 4)
 
+    def test_one_way_whose_steps_are_shared_among_others(self):
+        # The other stair has the jumps of ways that share the steps, in whatever pairs the first way has them, and few
+        # jumps more, or less.
+        chance = random.Random(75)
+        seen = {True: 0, False: 0}
+        for _ in range(600):
+            many = chance.randint(3, 8)
+            steps = sorted(chance.sample(range(1, many + 1), chance.randint(2, many)))
+            way = (0, *steps, many + 1)
+            groups = [[] for _ in range(chance.randint(2, 3))]
+            for step in steps:
+                chance.choice(groups).append(step)
+            parts = [(0, *group, many + 1) for group in groups if group]
+            jumps = {jump for part in parts for jump in zip(part, part[1:])}
+            kept = [jump for jump in sorted(jumps) if chance.random() < 0.95]
+            more = chance.sample([jump for jump in all_jumps(many) if jump[0] and jump[1] <= many], 3)
+            one, other = Stair(many, list(zip(way, way[1:]))), Stair(many, sorted({*kept, *more}))
+            expected = shows_once(other, way)
+            seen[expected] += 1
+            self.assertEqual(first_lacking(one, other), None if expected else way)
+            self.assertIs(can_show(other, {step: 1 for step in steps}), expected)
+        self.assertGreater(min(seen.values()), 100)
+
     def test_against_the_wears_that_they_show(self):
         seen = set()
         for one, other in [pair for pair in drawn_stairs(10) if pair[0].steps <= 3]:

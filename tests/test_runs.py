@@ -1,9 +1,10 @@
 """Feet along a run in all crowds that fit, crowds with just so many, and short papers."""
 
+import itertools
 import random
 import unittest
 
-from tests.samples import EqualToAll, lets, odd_values, plain_passed, plain_ways, plain_wears
+from tests.samples import EqualToAll, all_jumps, lets, odd_values, plain_passed, plain_ways, plain_wears
 from tests.test_crowds_wrong import Refusals, wrong_runs
 from tests.test_fits import is_plain_clash_of, large_marks
 from tests.test_scores import small_problems
@@ -14,6 +15,7 @@ from wornsteps.errors import InvalidCount, InvalidRun, NotBetween, NothingFits
 from wornsteps.fits import does_fit
 from wornsteps.marks import Marks
 from wornsteps.runs import along_range, crowd_on, is_short_paper, short_paper
+from wornsteps.scores import range_of
 from wornsteps.stairs import Stair
 
 BIG = 10 ** 28
@@ -150,6 +152,105 @@ class Large(unittest.TestCase):
         self.assertEqual(along_range(marks.with_mark((2, 4), 1, 1).with_mark((1, 2), 1, 1), (0, 2, 3)), (1, 2))
         self.assertEqual(along_range(marks, (0, 2)), (1, 2))
         self.assertEqual(along_range(Marks(Stair(2, [(0, 1), (1, 3)]), {(0, 1): (0, 5)}), (0, 1, 3)), (0, 5))
+
+    def check_whole(self, marks, run, numbers):
+        """The range of a run, each number of it and those beyond, and papers of their own."""
+        self.assertEqual(along_range(marks, run), numbers)
+        self.check(marks, run)
+        low, high = numbers
+        for many in range(low, low + 9 if high is None else high + 1):
+            crowd = crowd_on(marks, run, many)
+            self.assertEqual(plain_along(crowd.ways(), run), many)
+            self.assertTrue(lets(marks.told(), plain_wears(marks.stair, crowd.ways())))
+
+    def test_more_of_one_jump_is_less_of_another(self):
+        # Feet from 1 to 5 at once leave fewer for (1, 3), and more of those who pass 3 for (3, 4).
+        stair = Stair(5, [(0, 1), (0, 2), (1, 3), (2, 3), (1, 5), (3, 4), (3, 5), (4, 6), (5, 6)])
+        for one, three, five in ((4, 4, 4), (5, 5, 5), (9, 8, 7), (3, 9, 8), (BIG, BIG, BIG), (2, 2, 2), (7, 5, 4)):
+            marks = Marks(stair, {1: (one, one), 3: (three, three), 5: (five, five)})
+            # With x feet on (1, 5), one - x make the first jump, and three - (five - x) the second one.
+            least, most = max(0, five - three, one - three), min(one, five)
+            middle = (one - three + five) // 2
+            rows = [min(one - x, three - five + x) for x in {least, most, middle, middle + 1} if least <= x <= most]
+            self.assertEqual(along_range(marks, (1, 3, 4))[1], max(rows))
+            self.check(marks, (1, 3, 4))
+        marks = Marks(stair, {1: (8, 8), 3: (8, 8), 5: (8, 8)})
+        self.assertEqual([range_of(marks, jump) for jump in ((1, 3), (3, 4))], [(0, 8), (0, 8)])
+        self.check_whole(marks, (1, 3, 4), (0, 4))
+        # The lows of the run's jumps count, too: those that are above the number are not raised.
+        self.check_whole(marks.with_mark((1, 3), 6), (1, 3, 4), (0, 2))
+        self.check_whole(marks.with_mark((3, 4), 5, 7), (1, 3, 4), (0, 3))
+        self.check_whole(marks.with_mark((1, 3), 0, 3), (1, 3, 4), (0, 3))
+
+    def test_drawn_marks_where_more_of_one_jump_is_less_of_another(self):
+        chance = random.Random(55)
+        stair = Stair(5, [(0, 1), (0, 2), (1, 3), (2, 3), (1, 5), (3, 4), (3, 5), (4, 6), (5, 6)])
+        # Four numbers tell all flows: those on (1, 3), (2, 3), (1, 5) and (3, 4).
+        flows = []
+        for first, second, third, fourth in itertools.product(range(6), repeat=4):
+            wear = first + second
+            if fourth <= wear:
+                flows.append({1: first + third, 3: wear, 5: third + wear - fourth, (1, 3): first, (2, 3): second,
+                              (1, 5): third, (3, 4): fourth, (3, 5): wear - fourth})
+        seen = set()
+        for _ in range(600):
+            hidden = chance.choice(flows)
+            told = {thing: (max(0, wear - chance.randint(0, 2)), wear + chance.randint(0, 2))
+                    for thing, wear in hidden.items() if chance.random() < 0.8}
+            told[1] = (hidden[1], min(5, hidden[1] + 1))
+            told[3] = (max(0, hidden[3] - chance.randint(0, 4)), min(5, hidden[3]))
+            if told[1][0] <= told[1][1] and told[3][0] <= told[3][1]:
+                fitting = [flow for flow in flows if lets(told, flow)]
+                most = max([min(flow[(1, 3)], flow[(3, 4)]) for flow in fitting], default=None)
+                marks = Marks(stair, told)
+                if most is None:
+                    with self.assertRaises(NothingFits):
+                        along_range(marks, (1, 3, 4))
+                else:
+                    least = min(max(0, flow[(1, 3)] + flow[(3, 4)] - flow[3]) for flow in fitting)
+                    self.check_whole(marks, (1, 3, 4), (least, most))
+                    seen.add(most < min(range_of(marks, jump)[1] for jump in ((1, 3), (3, 4))))
+        self.assertEqual(seen, {True, False})
+
+    def test_drawn_stairs_where_each_step_is_known(self):
+        chance = random.Random(54)
+        seen = set()
+        for _ in range(60):
+            jumps = [(i, j) for i, j in all_jumps(5) if j - i <= 3]
+            stair = Stair(5, chance.sample(jumps, 10))
+            ways = plain_ways(stair)
+            if 3 <= len(ways) <= 9:
+                worn = plain_wears(stair, {way: chance.randint(0, 2) for way in chance.sample(ways, 3)})
+                marks = Marks(stair, {thing: (worn[thing], worn[thing]) for thing in ["feet", 1, 2, 3, 4, 5]})
+                crowds = self.all_crowds(stair, marks.told(), worn["feet"])
+                for run in [run for run in runs_of(stair) if len(run) > 2]:
+                    met = sorted({plain_along(crowd, run) for crowd in crowds})
+                    self.check_whole(marks, run, (met[0], met[-1]))
+                    least_greatest = min(range_of(marks, jump)[1] for jump in zip(run, run[1:]))
+                    seen.add((met[0] > 0, met[-1] < least_greatest))
+        self.assertLessEqual({(True, False), (False, False)}, seen)
+
+    def all_crowds(self, stair, told, feet):
+        """All dicts of ways, of so many feet, that fit, found way by way."""
+        rows = [{}]
+        for way in plain_ways(stair):
+            rows = [{**row, **({way: more} if more else {})} for row in rows
+                    for more in range(feet + 1 - sum(row.values()))]
+            rows = [row for row in rows if all(worn <= told.get(thing, (0, feet))[1]
+                                               for thing, worn in plain_wears(stair, row).items())]
+        return [row for row in rows if lets(told, plain_wears(stair, row))]
+
+    def test_feet_that_come_so_that_fewer_must_go_along(self):
+        # More feet on a free way that passes the inner steps otherwise; here one that passes one, or both of them.
+        marks = Marks(Stair.of(3, 1, 2), {(1, 2): (3, None), (2, 3): (3, None)})
+        self.check_whole(marks, (1, 2, 3), (0, None))
+        self.check_whole(marks.with_mark((1, 2), BIG).with_mark((2, 3), BIG), (1, 2, 3), (0, None))
+        wide = Marks(Stair.of(6, 1, 2), {(0, 2): (5, None), (2, 4): (5, None), (4, 6): (5, None)})
+        self.check_whole(wide, (0, 2, 4, 6), (0, None))
+        self.check_whole(wide.with_mark(3, 0, 0).with_mark(1, 0, 0), (0, 2, 4, 6), (5, None))
+        # Not without an end: as many as the high of a step on these ways lets.
+        self.check_whole(wide.with_mark(3, 0, 2), (0, 2, 4, 6), (0, None))
+        self.check_whole(wide.with_mark(1, 0, 0).with_mark(3, 0, 2), (0, 2, 4, 6), (3, None))
 
     def test_a_run_that_no_way_makes(self):
         marks = Marks(Stair(3, [(0, 1), (1, 2), (2, 3), (0, 4)]), {"feet": (2, 5)})
