@@ -216,7 +216,7 @@ class Moments(unittest.TestCase):
                 row = [chance.choice(ways) for _ in range(many)] if ways else []
                 for step in range(1, stair.head):
                     for mark in ((0, None), (0, 0), (1, 1), (1, 3), (2, None), (5, 5)):
-                        worn = [plain_wears(stair, {way: row[:m].count(way) for way in row[:m]})[step]
+                        worn = [plain_wears(stair, {way: row[m:].count(way) for way in row[m:]})[step]
                                 for m in range(len(row) + 1)]
                         right = [m for m, wear in enumerate(worn) if mark[0] <= wear <= (mark[1] or 0) or (
                             mark[1] is None and mark[0] <= wear)]
@@ -229,9 +229,33 @@ class Moments(unittest.TestCase):
         stair = Stair.of(2, 1, 2)
         row = [(0, 1, 3), (0, 2, 3), (0, 1, 3)]
         self.assertEqual(moments(stair, row, 1, (1, 1)), [1, 2])
-        self.assertEqual(moments(mark=(0, 0), step=2, row=row, stair=stair), [0, 1])
+        self.assertEqual(moments(mark=(0, 0), step=2, row=row, stair=stair), [2, 3])
         self.assertEqual([moments(stair, [], 1, (0, None)), moments(stair, [], 1, (1, None))], [[0], []])
         self.assertEqual(row, [(0, 1, 3), (0, 2, 3), (0, 1, 3)])
+
+    def test_ways_behind_the_moment(self):
+        # Turned about, this row has other moments, so what goes ahead of one is not taken for what goes behind.
+        stair = Stair.of(2, 1, 2)
+        row = [(0, 1, 3), (0, 2, 3)]
+        rows = [(1, (1, 1), [0]), (1, (0, 0), [1, 2]), (2, (1, 1), [0, 1]), (2, (0, 0), [2]),
+                (1, (1, None), [0]), (2, (1, None), [0, 1]), (1, (2, None), []), (2, (0, 1), [0, 1, 2])]
+        for step, mark, right in rows:
+            self.assertEqual(moments(stair, row, step, mark), right)
+            self.assertEqual(moments(stair, row[::-1], 3 - step, mark), right)
+        both = [(0, 1, 2, 3)] + row
+        self.assertEqual([moments(stair, both, 1, (many, many)) for many in (0, 1, 2, 3)], [[2, 3], [1], [0], []])
+        self.assertEqual([moments(stair, both, 2, (many, many)) for many in (0, 1, 2, 3)], [[3], [1, 2], [0], []])
+
+    def test_a_moment_is_there_if_the_low_is_worn(self):
+        # The wear behind the moments falls from the whole one to 0, by at most 1 from each to the next one.
+        chance = random.Random(65)
+        for stair in small_stairs(5):
+            ways = plain_ways(stair)
+            row = [chance.choice(ways) for _ in range(6)] if ways else []
+            for step in range(1, stair.head):
+                whole = sum(step in way for way in row)
+                for mark in [(low, high) for low in range(8) for high in (low, low + 2, None)]:
+                    self.assertEqual(bool(moments(stair, row, step, mark)), whole >= mark[0])
 
 
 class Wrong(Refusals):

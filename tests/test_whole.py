@@ -153,7 +153,9 @@ class Hidden(unittest.TestCase):
         for marks, ways in hidden_rows():
             row = [way for way, many in sorted(ways.items()) for _ in range(min(many, 3))]
             for step in range(1, marks.stair.head):
-                self.assertIn(len(row), moments(marks.stair, row, step, (sum(step in way for way in row),) * 2))
+                # The whole row goes behind moment 0, none of it behind the last one.
+                self.assertIn(0, moments(marks.stair, row, step, (sum(step in way for way in row),) * 2))
+                self.assertIn(len(row), moments(marks.stair, row, step, (0, 0)))
 
 
 class Alike(unittest.TestCase):

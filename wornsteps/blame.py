@@ -139,6 +139,14 @@ def are_all_ways(stair, value):
     return is_list(value) and all([is_way(stair, way) for way in value])
 
 
+def worn_since(row, step):
+    """The list of how often the step is worn behind each moment of a row of ways."""
+    worn = [sum([1 for way in row if step in way])]
+    for way in row:
+        worn.append(worn[-1] - (1 if step in way else 0))
+    return worn
+
+
 def moments(stair, row, step, mark):
     """The list of the moments of a row of ways behind which the step is worn within the mark."""
     if not are_all_ways(stair, row):
@@ -148,7 +156,5 @@ def moments(stair, row, step, mark):
     if not is_mark(mark):
         raise InvalidMark(mark)
     low, high = mark
-    worn = [0]
-    for way in row:
-        worn.append(worn[-1] + (1 if step in way else 0))
+    worn = worn_since(row, step)
     return [moment for moment, wear in enumerate(worn) if low <= wear and (high is None or wear <= high)]
